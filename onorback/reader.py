@@ -1,0 +1,185 @@
+"""Benches, tasks, plans and models, read from texts.
+
+A reading function for one line returns None if the line is bad.
+"""
+
+from onorback.errors import NoText, Wrong
+from onorback.forms import are_contents, is_model, is_place, is_rule, is_task, is_ways
+from onorback.texts import order_words, place_words
+
+DIGITS = "0123456789"
+
+
+def read_bench(text):
+    """Return the bench that a text writes."""
+    _ask_string(text, 0)
+    bench = tuple([_good(_place_of(words), index) for index, words in _said(text)])
+    if not bench:
+        raise NoText(_count_lines(text))
+    return bench
+
+
+def read_task(text):
+    """Return the task that a text writes."""
+    _ask_string(text, 0)
+    said = _said(text)
+    heads = [words[0] for _, words in said] + ["rests"]
+    many = heads.index("rests")
+    bench = tuple([_good(_place_of(words), index) for index, words in said[:many]])
+    if many == len(said):
+        raise NoText(_count_lines(text))
+    rests = _good(_rests_of(bench, said[many][1]), said[many][0])
+    orders = []
+    for index, words in said[many + 1:]:
+        orders.append(_good(_order_of(bench, rests, orders, words), index))
+    return (bench, rests, tuple(orders))
+
+
+def read_plan(task, text):
+    """Return the plan of a task that a text writes."""
+    _ask_task(task)
+    _ask_string(text, 1)
+    rule = []
+    ways = []
+    for index, words in _said(text):
+        if words[0] == "row" and not ways:
+            rule.append(_good(_row_of(task, rule, words), index))
+        else:
+            ways.append(_good(_way_of(task, len(ways), words), index))
+    if len(ways) < len(task[2]):
+        raise NoText(_count_lines(text))
+    return (tuple(rule), tuple(ways))
+
+
+def read_model(task, text):
+    """Return the model of a task that a text writes."""
+    _ask_task(task)
+    _ask_string(text, 1)
+    owners = {rest: k for k, rest in enumerate(task[1])}
+    lots = []
+    for index, words in _said(text):
+        lot = _good(_lot_of(task, owners, len(lots), words), index)
+        for content in lot:
+            owners[content] = len(lots)
+        lots.append(lot)
+    if not is_model(task, tuple(lots)):
+        raise NoText(_count_lines(text))
+    return tuple(lots)
+
+
+def _ask_string(text, place):
+    if not isinstance(text, str):
+        raise Wrong(place)
+
+
+def _ask_task(task):
+    if not is_task(task):
+        raise Wrong(0)
+
+
+def _good(value, index):
+    if value is None:
+        raise NoText(index)
+    return value
+
+
+def _count_lines(text):
+    return text.count("\n") + 1
+
+
+def _said(text):
+    """Return the list of the tuples (index, words) for the lines that say something."""
+    said = []
+    for index, line in enumerate(text.split("\n")):
+        words = [word for word in line.split(" ") if word != ""]
+        if words and not words[0].startswith("#"):
+            said.append((index, words))
+    return said
+
+
+def _digit(sign):
+    if len(sign) != 1:
+        return -1
+    return DIGITS.find(sign)
+
+
+def _contents_of(words):
+    # Whether they are contents of the bench is asked of the whole line.
+    return tuple([tuple([_digit(sign) for sign in word]) for word in words])
+
+
+def _place_of(words):
+    if len(words) < 2:
+        return None
+    many = _digit(words[1])
+    if words[0] == "place":
+        place = (many, tuple([_move_of(word) for word in words[2:]]))
+        return place if is_place(place) else None
+    if len(words) == 2 and 2 <= many <= 6:
+        for word, place in place_words(many):
+            if word == words[0]:
+                return place
+    return None
+
+
+def _move_of(word):
+    if len(word) != 3 or word[1] != ">":
+        return None
+    return (_digit(word[0]), _digit(word[2]))
+
+
+def _rests_of(bench, words):
+    rests = _contents_of(words[1:])
+    if not is_task((bench, rests, ())):
+        return None
+    return rests
+
+
+def _order_of(bench, rests, orders, words):
+    order = _told_order(words)
+    if not is_task((bench, rests, (order,))):
+        return None
+    if orders and order[:2] <= orders[-1][:2]:
+        return None
+    return order
+
+
+def _told_order(words):
+    contents = _contents_of(words[1:3])
+    if len(contents) < 2:
+        return None
+    start, goal = contents
+    if words[0] == "order" and words[3:4] == ["to"]:
+        return (start, goal, _contents_of(words[4:]))
+    if len(words) == 3:
+        for word, order in order_words(start, goal):
+            if word == words[0]:
+                return order
+    return None
+
+
+def _row_of(task, rule, words):
+    row = _contents_of(words[1:])
+    if not is_rule(task, (row,)):
+        return None
+    if rule and row[0] <= rule[-1][0]:
+        return None
+    return row
+
+
+def _way_of(task, k, words):
+    way = _contents_of(words[1:])
+    bench, rests, orders = task
+    # Behind the last order there is none to be served, and then a way is one too many.
+    if words[0] != "way" or not is_ways((bench, rests, orders[k:k + 1]), (way,)):
+        return None
+    return way
+
+
+def _lot_of(task, owners, k, words):
+    lot = _contents_of(words[1:])
+    if words[0] != "lot" or k >= len(task[1]) or not are_contents(task[0], lot):
+        return None
+    if task[1][k] not in lot or any([owners.get(content, k) != k for content in lot]):
+        return None
+    return lot

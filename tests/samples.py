@@ -1,0 +1,191 @@
+"""Right values for the tests, the same in each run, and values that are bent at one place."""
+
+import random
+from itertools import product
+
+from onorback import benches
+from onorback.errors import NoText
+from onorback.player import Player
+
+BITS = ((2, ((0, 1), (1, 0))), (2, ((0, 1), (1, 0))))
+SLIDE = (3, ((0, 1), (1, 0), (1, 2), (2, 1)))
+MAKERS = [benches.free_place, benches.slide_place, benches.dial_place, benches.rise_place]
+
+
+def deep(many):
+    value = []
+    for k in range(many):
+        value = (value,) if k % 2 else [value]
+    return value
+
+
+def a_player():
+    task = (BITS, ((0, 0), (1, 1)), ())
+    return Player(task, ((), ()), (0, 0))
+
+
+def odd_values():
+    """Values of all kinds, few of which are right anywhere."""
+    return [
+        None, True, False, 0, 1, -1, 2, 6, 7, 10 ** 39, "", "0", "step", " #\n~", [], (), {}, [0], (0,), (True,),
+        {"a": (1, [2])}, {0: 1}, ((0, 1), (1, 0)), [[(0, 1)]], deep(59), tuple(range(19000)), [()] * 19000,
+        ((2, ((0, 1),)),), ("order", 0), ("step",), a_player(), [a_player()], (a_player(), a_player()), NoText(3),
+    ]
+
+
+def random_place(rng, many):
+    kind = rng.randrange(6)
+    if kind == 0 and many > 2:
+        return benches.dial_place(many)
+    if kind == 1:
+        return benches.free_place(many)
+    if kind == 2:
+        return benches.slide_place(many)
+    if kind == 3:
+        return benches.rise_place(many)
+    moves = [(v, w) for v in range(many) for w in range(many) if v != w]
+    chosen = {move for move in moves if rng.random() < rng.choice([0.1, 0.5, 0.9])}
+    if kind == 4:
+        chosen |= {(w, v) for v, w in chosen}
+    return (many, tuple(sorted(chosen)))
+
+
+def random_bench(rng, most=36):
+    while True:
+        bench = tuple(random_place(rng, rng.randint(2, 6)) for _ in range(rng.randint(1, 5)))
+        if len(contents(bench)) <= most:
+            return bench
+
+
+def contents(bench):
+    return list(product(*[range(place[0]) for place in bench]))
+
+
+def next_ones(bench, content):
+    """The contents to which there is a step, found from all pairs of contents."""
+    found = []
+    for other in contents(bench):
+        differ = [k for k in range(len(bench)) if content[k] != other[k]]
+        if len(differ) == 1 and (content[differ[0]], other[differ[0]]) in set(bench[differ[0]][1]):
+            found.append(other)
+    return found
+
+
+def random_ends(rng, rests, start, goal):
+    kind = rng.randrange(6)
+    if kind < 3:
+        return [tuple(sorted([start, goal])), (goal,), (start,)][kind]
+    if kind == 3:
+        return ()
+    return tuple(sorted(rng.sample(rests, rng.randint(0, len(rests)))))
+
+
+def random_task(rng, bench=None, most=36):
+    if bench is None:
+        bench = random_bench(rng, most)
+    everywhere = contents(bench)
+    rests = sorted(rng.sample(everywhere, rng.randint(1, min(8, len(everywhere)))))
+    pairs = [(start, goal) for start in rests for goal in rests if start != goal]
+    pairs = sorted(rng.sample(pairs, min(len(pairs), rng.choice([0, 1, 3, 8, 24]))))
+    orders = tuple((start, goal, random_ends(rng, rests, start, goal)) for start, goal in pairs)
+    return (bench, tuple(rests), orders)
+
+
+def random_rule(rng, task, often):
+    rows = []
+    for content in contents(task[0]):
+        ahead = next_ones(task[0], content)
+        if content not in task[1] and ahead and rng.random() < often:
+            rows.append((content, rng.choice(ahead)))
+    return tuple(rows)
+
+
+def random_way(rng, bench, start, goal, most=60):
+    """A walk that turns to the goal at last, or None if it misses it."""
+    for _ in range(20):
+        way = [start]
+        while len(way) < most and way[-1] != goal:
+            ahead = next_ones(bench, way[-1])
+            if not ahead:
+                break
+            way.append(goal if goal in ahead and rng.random() < 0.7 else rng.choice(ahead))
+        if way[-1] == goal:
+            return tuple(way)
+    return None
+
+
+def random_planned(rng, most=36, longest=60):
+    """A task with a plan, which may or may not keep it."""
+    task = random_task(rng, None, most)
+    ways = [random_way(rng, task[0], start, goal, longest) for start, goal, _ in task[2]]
+    orders = tuple(order for order, way in zip(task[2], ways) if way is not None)
+    task = (task[0], task[1], orders)
+    rule = random_rule(rng, task, rng.choice([0, 0.3, 0.8, 1, 1]))
+    return task, (rule, tuple(way for way in ways if way is not None))
+
+
+def random_lots(rng, task):
+    """Lots that are grown content by content, so that they hang together."""
+    owners = {rest: k for k, rest in enumerate(task[1])}
+    everywhere = contents(task[0])
+    for _ in range(rng.randrange(2 * len(everywhere))):
+        content = rng.choice(everywhere)
+        near = [owners[other] for other in next_ones(task[0], content) if other in owners]
+        if content not in owners and near:
+            owners[content] = rng.choice(near)
+    return tuple(tuple(c for c in everywhere if owners.get(c) == k) for k in range(len(task[1])))
+
+
+def random_lotted(rng, most=36):
+    """A task with lots, of which most orders are served."""
+    task = random_task(rng, None, most)
+    lots = random_lots(rng, task)
+    orders = []
+    for order in task[2]:
+        if rng.random() < 0.2 or serves(task[0], task[1], lots, order):
+            orders.append(order)
+    return (task[0], task[1], tuple(orders)), lots
+
+
+def serves(bench, rests, lots, order):
+    start, goal, ends = order
+    inside = {content for rest, lot in zip(rests, lots) if rest in ends for content in lot}
+    met = {start}
+    while True:
+        more = {other for content in met for other in next_ones(bench, content)}
+        if goal in more:
+            return True
+        more = {content for content in more if content in inside} - met
+        if not more:
+            return False
+        met |= more
+
+
+def bends(value):
+    """All values that come of one by a change at one place, of any depth."""
+    for other in [None, True, False, -1, "0", {}, a_player()]:
+        yield other
+    if isinstance(value, int) and not isinstance(value, bool):
+        yield from [value + 1, value - 1, str(value), (value,)]
+    if isinstance(value, tuple):
+        yield list(value)
+        yield {}
+        yield value + (None,)
+        yield value[::-1]
+        for k, part in enumerate(value):
+            yield value[:k] + value[k + 1:]
+            yield value[:k + 1] + value[k:]
+            yield value[:k] + value[k + 1:k + 2] + (part,) + value[k + 2:]
+            for bent in bends(part):
+                yield value[:k] + (bent,) + value[k + 1:]
+
+
+def as_truths(value):
+    """All values that come of one by a truth in the place of a 1 or a 0, or a list in that of a tuple."""
+    if isinstance(value, tuple):
+        yield list(value)
+        for k, part in enumerate(value):
+            for bent in as_truths(part):
+                yield value[:k] + (bent,) + value[k + 1:]
+    elif value in (0, 1):
+        yield bool(value)

@@ -1,0 +1,78 @@
+"""The examples that the document prints behind [17], in [20], behind [25], behind [29], and of models behind [34]."""
+
+import doctest
+import unittest
+from pathlib import Path
+
+README = Path(__file__).resolve().parent.parent / "README.md"
+
+EXAMPLES = {
+    "behind [17]": '''
+>>> from onorback.benches import distance, free_place, reached_from, rise_place, shortest_way, slide_place
+>>> bench = (slide_place(3), free_place(2))
+>>> bench
+((3, ((0, 1), (1, 0), (1, 2), (2, 1))), (2, ((0, 1), (1, 0))))
+>>> [shortest_way(bench, (0, 0), (2, 0), [(1, 0)]), distance(bench, (0, 0), (2, 0), [(1, 0), (1, 1)])]
+[((0, 0), (0, 1), (1, 1), (2, 1), (2, 0)), None]
+>>> reached_from((rise_place(3),), [(1,)], [])
+[(1,), (2,)]
+''',
+    "in [20]": r'''
+>>> from onorback.texts import show_task
+>>> show_task((((2, ((0, 1), (1, 0))), (3, ((0, 1), (1, 2), (2, 0)))), ((0, 0), (1, 0)), (((0, 0), (1, 0), ((0, 0), (1, 0))), ((1, 0), (0, 0), ()))))
+'free 2\nplace 3 0>1 1>2 2>0\nrests 00 10\neither 00 10\norder 10 00 to'
+''',
+    "behind [25]": '''
+>>> from onorback.player import Player
+>>> flip = (2, ((0, 1), (1, 0)))
+>>> task = ((flip, flip), ((0, 0), (1, 1)), (((0, 0), (1, 1), ((0, 0), (1, 1))),))
+>>> plan = ((((0, 1), (0, 0)), ((1, 0), (1, 1))), (((0, 0), (1, 0), (1, 1)),))
+>>> player = Player(task, plan, (0, 0))
+>>> [player.order(0), player.step(), player.die(), player.at_now(), player.step(), player.order_now()]
+[None, ((0, 0), (1, 0)), None, None, ((1, 0), (1, 1)), None]
+>>> [player.content_now(), player.ended_now(), player.undo(), player.order_now()]
+[(1, 1), [(0, (1, 1))], ('step',), 0]
+''',
+    "behind [29]": '''
+>>> from onorback.judging import first_break, story_of
+>>> from onorback.mending import least_changes, way_by_rule
+>>> bits = ((2, ((0, 1), (1, 0))), (2, ((0, 1), (1, 0))))
+>>> task = (bits, ((0, 0), (1, 1)), (((0, 0), (1, 1), ((1, 1),)),))
+>>> plan = ((((0, 1), (0, 0)), ((1, 0), (1, 1))), (((0, 0), (0, 1), (1, 1)),))
+>>> [first_break(task, plan, 0), story_of(task, plan, 0)]
+[(1, (0, 0)), [('order', 0), ('step',), ('die',), ('step',)]]
+>>> way_by_rule(task, plan[0], 0)
+((0, 0), (1, 0), (1, 1))
+>>> least_changes(task, plan, 1)
+(1, (((0, 1), (1, 1)), ((1, 0), (1, 1))))
+''',
+    "behind [34]": '''
+>>> from onorback.benches import either_order, free_place
+>>> from onorback.models import model_of, plan_of, unserved_orders
+>>> bench = (free_place(2), free_place(2))
+>>> rests = ((0, 0), (1, 1))
+>>> task = (bench, rests, (either_order((0, 0), (1, 1)), ((1, 1), (0, 0), ((0, 0),))))
+>>> lots = (((0, 0), (0, 1)), ((1, 1),))
+>>> plan_of(task, lots)
+((((0, 1), (0, 0)),), (((0, 0), (0, 1), (1, 1)), ((1, 1), (0, 1), (0, 0))))
+>>> model_of(task, plan_of(task, lots)) == lots
+True
+>>> unserved_orders(task, (((0, 0),), ((0, 1), (1, 1))))
+[1]
+''',
+}
+
+
+class ExamplesTest(unittest.TestCase):
+    def test_examples(self):
+        examples = {**EXAMPLES, "README": README.read_text(encoding="utf-8")}
+        for name, text in examples.items():
+            told = []
+            example = doctest.DocTestParser().get_doctest(text, {}, name, None, None)
+            result = doctest.DocTestRunner(verbose=False).run(example, out=told.append)
+            self.assertEqual(result.failed, 0, "".join(told))
+            self.assertGreater(result.attempted, 1)
+
+
+if __name__ == "__main__":
+    unittest.main()

@@ -1,0 +1,65 @@
+"""The interface: every name, with its arguments, in the file under which the document lists it."""
+
+import importlib
+import inspect
+import unittest
+
+FUNCTIONS = {
+    "forms": "is_integer(thing) is_place(thing) is_bench(thing) is_task(thing) is_content(bench, thing) "
+             "is_step(bench, thing) is_rule(task, thing) is_ways(task, thing) is_plan(task, thing) "
+             "is_lots(task, thing) is_model(task, thing)",
+    "benches": "free_place(many) slide_place(many) dial_place(many) rise_place(many) with_orders(task, orders) "
+               "either_order(start, goal) contents_of(bench) steps_from(bench, content) steps_to(bench, content) "
+               "reached_from(bench, some, barred) pieces_of(bench, some) is_two_way(bench) "
+               "shortest_way(bench, one, other, barred) distance(bench, one, other, barred)",
+    "texts": "show_bench(bench) show_task(task) show_plan(plan) show_model(model)",
+    "reader": "read_bench(text) read_task(text) read_plan(task, text) read_model(task, text)",
+    "homes": "home_of(task, rule, content) homes_of(task, rule) path_home(task, rule, content) "
+             "stuck_contents(task, rule) rings_of(task, rule)",
+    "player": "played(task, plan, rest, deeds) first_bad(task, plan, rest, deeds)",
+    "judging": "keeps_order(task, plan, index) keeps_task(task, plan) is_story(task, plan, index, thing) "
+               "same_homes(task, one, other) broken_orders(task, plan) first_break(task, plan, index) "
+               "story_of(task, plan, index)",
+    "mending": "way_by_rule(task, rule, index) least_changes(task, plan, most) orders_by_rule(task, rule)",
+    "models": "served_way(task, lots, index) unserved_orders(task, lots) model_of(task, plan) rule_of(task, lots) "
+              "plan_of(task, lots)",
+}
+
+PLAYER = ("order(index) die() step() undo() content_now() rest_now() order_now() at_now() ended_now() deeds_done() "
+          "copied() __eq__(other) __init__(task, plan, rest)")
+
+
+def told(text):
+    """The tuples (name, arguments) that a row of the interface tells."""
+    for part in text.replace(") ", ")\n").split("\n"):
+        name, rest = part.split("(")
+        yield name, [word for word in rest.rstrip(")").split(", ") if word]
+
+
+class InterfaceTest(unittest.TestCase):
+    def test_functions(self):
+        for name, text in FUNCTIONS.items():
+            module = importlib.import_module("onorback." + name)
+            for function, arguments in told(text):
+                value = getattr(module, function)
+                self.assertTrue(inspect.isfunction(value))
+                self.assertEqual(value.__module__, "onorback." + name)
+                self.assert_positional(value, arguments)
+
+    def test_player(self):
+        from onorback.player import Player
+        self.assertEqual(Player.__module__, "onorback.player")
+        for method, arguments in told(PLAYER):
+            self.assertIn(method, vars(Player))
+            self.assert_positional(vars(Player)[method], ["self"] + arguments)
+
+    def assert_positional(self, value, arguments):
+        parameters = inspect.signature(value).parameters
+        self.assertEqual(list(parameters), arguments)
+        for parameter in parameters.values():
+            self.assertEqual(parameter.kind, parameter.POSITIONAL_OR_KEYWORD)
+            self.assertIs(parameter.default, parameter.empty)
+
+
+if __name__ == "__main__":
+    unittest.main()
