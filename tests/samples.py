@@ -1,7 +1,9 @@
 """Right values for the tests, the same in each run, and values that are bent at one place."""
 
 import random
+from functools import lru_cache
 from itertools import product
+from math import prod
 
 from onorback import benches
 from onorback.errors import NoText
@@ -51,10 +53,11 @@ def random_place(rng, many):
 
 
 def random_bench(rng, most=36):
+    many = rng.choice([k for k in range(1, 6) if 2 ** k <= most])
     while True:
-        bench = tuple(random_place(rng, rng.randint(2, 6)) for _ in range(rng.randint(1, 5)))
-        if len(contents(bench)) <= most:
-            return bench
+        sizes = [rng.choice([2, 2, 2, 3, 4, 5, 6]) for _ in range(many)]
+        if prod(sizes) <= most:
+            return tuple(random_place(rng, size) for size in sizes)
 
 
 def contents(bench):
@@ -63,6 +66,11 @@ def contents(bench):
 
 def next_ones(bench, content):
     """The contents to which there is a step, found from all pairs of contents."""
+    return list(_next_ones(bench, content))
+
+
+@lru_cache(maxsize=None)
+def _next_ones(bench, content):
     found = []
     for other in contents(bench):
         differ = [k for k in range(len(bench)) if content[k] != other[k]]

@@ -108,7 +108,7 @@ class FormsTest(unittest.TestCase):
 
     def test_bent_ones(self):
         rng = random.Random(1)
-        for _ in range(3):
+        for _ in range(12):
             task, plan = samples.random_planned(rng, 12, 8)
             lots = samples.random_lots(rng, task)
             for bent in [task[0][0]] + list(samples.bends(task[0][0])):
