@@ -11,7 +11,7 @@ from onorback.player import Player
 
 BITS = ((2, ((0, 1), (1, 0))), (2, ((0, 1), (1, 0))))
 SLIDE = (3, ((0, 1), (1, 0), (1, 2), (2, 1)))
-MAKERS = [benches.free_place, benches.slide_place, benches.dial_place, benches.rise_place]
+free, slide, dial, rise = benches.free_place, benches.slide_place, benches.dial_place, benches.rise_place
 
 
 def deep(many):
@@ -38,13 +38,13 @@ def odd_values():
 def random_place(rng, many):
     kind = rng.randrange(6)
     if kind == 0 and many > 2:
-        return benches.dial_place(many)
+        return dial(many)
     if kind == 1:
-        return benches.free_place(many)
+        return free(many)
     if kind == 2:
-        return benches.slide_place(many)
+        return slide(many)
     if kind == 3:
-        return benches.rise_place(many)
+        return rise(many)
     moves = [(v, w) for v in range(many) for w in range(many) if v != w]
     chosen = {move for move in moves if rng.random() < rng.choice([0.1, 0.5, 0.9])}
     if kind == 4:
@@ -97,6 +97,40 @@ def random_task(rng, bench=None, most=36):
     pairs = sorted(rng.sample(pairs, min(len(pairs), rng.choice([0, 1, 3, 8, 24]))))
     orders = tuple((start, goal, random_ends(rng, rests, start, goal)) for start, goal in pairs)
     return (bench, tuple(rests), orders)
+
+
+CROWDED = [(free(2),) * 3, (free(2),) * 4, (free(3),) * 2, (slide(3), free(3)), (slide(3), slide(4)), (dial(4), slide(3)),
+           (free(2), free(2), slide(3)), (slide(4), slide(4)), (free(2), free(6)), (rise(3), rise(3), free(2)),
+           (slide(6), slide(6)), (free(6), free(6)), (slide(3), dial(5))]
+
+
+def crowded_task(rng, most=8):
+    """A task with many orders, most of one sort, for which a model is not found or barred at once."""
+    bench = rng.choice(CROWDED)
+    everywhere = contents(bench)
+    rests = sorted(rng.sample(everywhere, rng.randint(4, min(most, len(everywhere) - 1))))
+    often = rng.choice([0.3, 0.5, 0.7, 1])
+    sort = rng.randrange(3)
+    orders = []
+    for start, goal in product(rests, rests):
+        if start != goal and rng.random() < often and len(orders) < 24:
+            ends = [tuple(sorted([start, goal])), (goal,), (start,)][sort]
+            orders.append((start, goal, ends if rng.random() < 0.8 else random_ends(rng, rests, start, goal)))
+    return (bench, tuple(rests), tuple(orders))
+
+
+def knotty_task(rng, most=12):
+    """A task on a small bench, each of whose orders could be served alone."""
+    bench = rng.choice([random_bench(rng, most)] + [bench for bench in CROWDED if len(contents(bench)) <= most])
+    everywhere = contents(bench)
+    rests = sorted(rng.sample(everywhere, min(len(everywhere) - 1, rng.randint(2, 5))))
+    hopes = [tuple(c for c in everywhere if c == rest or c not in rests) for rest in rests]
+    orders = []
+    for start, goal in product(rests, rests):
+        order = (start, goal, random_ends(rng, rests, start, goal))
+        if start != goal and serves(bench, rests, hopes, order) and rng.random() < 0.8:
+            orders.append(order)
+    return (bench, tuple(rests), tuple(orders))
 
 
 def random_rule(rng, task, often):

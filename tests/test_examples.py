@@ -1,4 +1,4 @@
-"""The examples that the document prints behind [17], in [20], behind [25], behind [29], and of models behind [34]."""
+"""The examples that the document prints."""
 
 import doctest
 import unittest
@@ -48,6 +48,7 @@ EXAMPLES = {
 ''',
     "behind [34]": '''
 >>> from onorback.benches import either_order, free_place
+>>> from onorback.homeways import longest_home, spare_contents
 >>> from onorback.models import model_of, plan_of, unserved_orders
 >>> bench = (free_place(2), free_place(2))
 >>> rests = ((0, 0), (1, 1))
@@ -55,10 +56,32 @@ EXAMPLES = {
 >>> lots = (((0, 0), (0, 1)), ((1, 1),))
 >>> plan_of(task, lots)
 ((((0, 1), (0, 0)),), (((0, 0), (0, 1), (1, 1)), ((1, 1), (0, 1), (0, 0))))
->>> model_of(task, plan_of(task, lots)) == lots
-True
+>>> [model_of(task, plan_of(task, lots)) == lots, longest_home(task, lots), spare_contents(task, lots)]
+[True, 1, []]
 >>> unserved_orders(task, (((0, 0),), ((0, 1), (1, 1))))
 [1]
+''',
+    "in [38]": '''
+>>> from onorback.benches import slide_place
+>>> from onorback.cases import case_tree, is_tree
+>>> from onorback.finding import find_model
+>>> bench, ends = (slide_place(3),), ((0,), (2,))
+>>> find_model((bench, ends, (((0,), (2,), ((0,),)),)))
+(((0,), (1,)), ((2,),))
+>>> task = (bench, ends, (((0,), (2,), ((0,),)), ((2,), (0,), ((2,),))))
+>>> [find_model(task), is_tree(task, case_tree(task))]
+[None, True]
+>>> is_tree(task, ("split", (1,), (("order", 1), ("order", 0), ("order", 0))))
+True
+>>> case_tree((bench, ((0,), (1,), (2,)), (((0,), (2,), ends),)))
+('order', 0)
+''',
+    "behind [43], of sums": '''
+>>> from onorback.sums import room_of, sum_fault
+>>> slide = (3, ((0, 1), (1, 0), (1, 2), (2, 1)))
+>>> path = ((slide,), ((0,), (1,), (2,)), (((0,), (2,), ((0,), (2,))),))
+>>> [room_of(path), sum_fault(path)]
+[2, None]
 ''',
 }
 

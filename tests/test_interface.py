@@ -23,6 +23,11 @@ FUNCTIONS = {
     "mending": "way_by_rule(task, rule, index) least_changes(task, plan, most) orders_by_rule(task, rule)",
     "models": "served_way(task, lots, index) unserved_orders(task, lots) model_of(task, plan) rule_of(task, lots) "
               "plan_of(task, lots)",
+    "homeways": "home_steps(task, lots) longest_home(task, lots) spare_contents(task, lots) tight_model(task, lots)",
+    "joining": "joined_rests(task, lots, one, other)",
+    "finding": "find_model(task)",
+    "cases": "case_tree(task) is_tree(task, thing) size_of_tree(tree) depth_of_tree(tree)",
+    "sums": "pairs_of(task) room_of(task) sum_fault(task)",
 }
 
 PLAYER = ("order(index) die() step() undo() content_now() rest_now() order_now() at_now() ended_now() deeds_done() "

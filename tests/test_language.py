@@ -12,7 +12,7 @@ CALLED = set("len range enumerate zip min max sum abs sorted reversed int str bo
              "repr any all divmod".split())
 METHODS = set("append clear copy count endswith extend find get index insert isalnum isalpha isdigit islower isspace "
               "isupper items join keys ljust lower lstrip partition pop remove replace reverse rfind rjust rpartition "
-              "rsplit rstrip setdefault split splitlines startswith strip update upper values zfill".split())
+              "rsplit rstrip setdefault split splitlines startswith strip update upper values zfill bit_length".split())
 LISTED = {
     ast.Module, ast.ImportFrom, ast.alias, ast.FunctionDef, ast.arguments, ast.arg, ast.ClassDef, ast.Return, ast.Assign,
     ast.AugAssign, ast.For, ast.While, ast.If, ast.Raise, ast.Try, ast.ExceptHandler, ast.Expr, ast.Pass, ast.Break,
@@ -20,8 +20,9 @@ LISTED = {
     ast.Not, ast.USub, ast.IfExp, ast.Dict, ast.ListComp, ast.DictComp, ast.comprehension, ast.Compare, ast.Eq, ast.NotEq,
     ast.Lt, ast.LtE, ast.Gt, ast.GtE, ast.Is, ast.IsNot, ast.In, ast.NotIn, ast.Call, ast.keyword, ast.FormattedValue,
     ast.JoinedStr, ast.Constant, ast.Attribute, ast.Subscript, ast.Starred, ast.Name, ast.List, ast.Tuple, ast.Slice,
-    ast.Load, ast.Store, ast.Delete, ast.Del,
+    ast.Load, ast.Store, ast.Delete, ast.Del, ast.BitAnd, ast.BitOr, ast.BitXor, ast.Invert, ast.LShift,
 }
+LIBRARY = {("itertools", "combinations"), ("math", "isqrt")}
 BARRED = re.compile(r"_wall\w*|_WallAttr\w*|_(pe|dcw|enum|cm|twin_re|lay|law|stub)_\w*|_sre\w*"
                     r"|_(cold|tuplegetter|outside|record|written_out|member_names)[\d_]*"
                     r"|register|mro|elements|open|input|law|version_info|with_traceback|add_note|type|typing|enum")
@@ -63,12 +64,16 @@ class LanguageTest(unittest.TestCase):
         for path, _, tree in self.each():
             ahead[path.stem] = set()
             for node in tree.body:
-                if isinstance(node, ast.ImportFrom):
+                if isinstance(node, ast.ImportFrom) and node.module in dict(LIBRARY):
+                    for alias in node.names:
+                        self.assertIn((node.module, alias.name, alias.asname), {(*names, None) for names in LIBRARY})
+                elif isinstance(node, ast.ImportFrom):
                     package, module = node.module.split(".")
                     self.assertEqual((package, node.level), ("onorback", 0))
                     ahead[path.stem].add(module)
                     target = ast.parse((FOLDER / (module + ".py")).read_text(encoding="utf-8"))
                     defined = {part.name for part in target.body if isinstance(part, (ast.FunctionDef, ast.ClassDef))}
+                    defined |= {part.targets[0].id for part in target.body if isinstance(part, ast.Assign)}
                     for alias in node.names:
                         self.assertIn(alias.name, defined)
                         self.assertIsNone(alias.asname)
@@ -109,9 +114,10 @@ class LanguageTest(unittest.TestCase):
     def test_calls(self):
         own = {node.name for _, node in self.nodes(ast.FunctionDef)}
         classes = {node.name for _, node in self.nodes(ast.ClassDef)}
+        library = {name for _, name in LIBRARY}
         for where, node in self.nodes(ast.Call):
             if isinstance(node.func, ast.Name):
-                self.assertIn(node.func.id, own | classes | CALLED, where)
+                self.assertIn(node.func.id, own | classes | library | CALLED, where)
             else:
                 self.assertIn(node.func.attr, METHODS | own, where)
             for keyword in node.keywords:
