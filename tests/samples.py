@@ -133,6 +133,24 @@ def knotty_task(rng, most=12):
     return (bench, tuple(rests), tuple(orders))
 
 
+STRUNG = [(slide(5),), (slide(6),), (slide(4), slide(2)), (slide(3), slide(3)), (dial(6),), (slide(3), free(2)),
+          ((6, ((0, 1), (1, 0), (1, 2), (1, 3), (2, 1), (3, 1), (3, 4), (3, 5), (4, 3), (5, 3))),)]
+
+
+def strung_task(rng):
+    """A task on a narrow bench, on which orders are often in each other's way."""
+    bench = rng.choice(STRUNG)
+    everywhere = contents(bench)
+    rests = sorted(rng.sample(everywhere, rng.randint(2, len(everywhere) - 2)))
+    pairs = [(start, goal) for start in rests for goal in rests if start != goal]
+    pairs = sorted(rng.sample(pairs, min(len(pairs), rng.randint(1, 6))))
+    orders = []
+    for start, goal in pairs:
+        narrow = rng.choice([(start,), (goal,), tuple(sorted([start, goal]))])
+        orders.append((start, goal, narrow if rng.random() < 0.7 else random_ends(rng, rests, start, goal)))
+    return (bench, tuple(rests), tuple(orders))
+
+
 def random_rule(rng, task, often):
     rows = []
     for content in contents(task[0]):

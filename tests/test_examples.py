@@ -76,12 +76,33 @@ True
 >>> case_tree((bench, ((0,), (1,), (2,)), (((0,), (2,), ends),)))
 ('order', 0)
 ''',
-    "behind [43], of sums": '''
+    "behind [43]": '''
+>>> from onorback.cuts import barring_cut, least_cover
+>>> from onorback.drawings import drawing_of, drawing_sum
 >>> from onorback.sums import room_of, sum_fault
 >>> slide = (3, ((0, 1), (1, 0), (1, 2), (2, 1)))
 >>> path = ((slide,), ((0,), (1,), (2,)), (((0,), (2,), ((0,), (2,))),))
->>> [room_of(path), sum_fault(path)]
-[2, None]
+>>> [room_of(path), sum_fault(path), least_cover(path, ((1,),)), barring_cut(path, 1)]
+[2, None, ((0,), (1,)), ((1,),)]
+>>> bits = ((2, ((0, 1), (1, 0))), (2, ((0, 1), (1, 0))))
+>>> drawing_of((slide,))
+[((0,), (1,), (2,), (1,))]
+>>> [drawing_of(bits), drawing_sum(bits, drawing_of(bits))]
+[[((0, 0), (0, 1), (1, 1), (1, 0)), ((0, 0), (1, 0), (1, 1), (0, 1))], 2]
+''',
+    "behind [48]": '''
+>>> from onorback.anytoany import most_any
+>>> from onorback.benches import free_place, slide_place
+>>> from onorback.greatest import greatest_orders, least_barred, least_ends
+>>> from onorback.sealed import most_rests, places_for, sealed_home, sealed_next
+>>> ends = ((0,), (2,))
+>>> task = ((slide_place(3),), ends, (((0,), (2,), ((0,),)), ((2,), (0,), ((2,),))))
+>>> [greatest_orders(task, (0, 1)), least_barred(task, (0, 1)), least_ends(task, 1, ends)]
+[[(0,), (1,)], [(0, 1)], [((0,),)]]
+>>> [most_any((free_place(2), free_place(2))), most_rests(2), most_rests(3), places_for(3)]
+[3, 3, 4, (2, 5)]
+>>> [sealed_home(1, (0, 1, 1)), sealed_next(1, (0, 1, 1)), sealed_next(1, (1, 1, 1))]
+[(1, 0, 0), (1, 1, 1), (1, 1, 0)]
 ''',
 }
 

@@ -28,6 +28,12 @@ FUNCTIONS = {
     "finding": "find_model(task)",
     "cases": "case_tree(task) is_tree(task, thing) size_of_tree(tree) depth_of_tree(tree)",
     "sums": "pairs_of(task) room_of(task) sum_fault(task)",
+    "cuts": "crossing_orders(task, cut) least_cover(task, cut) is_barring(task, cut) barring_cut(task, most)",
+    "drawings": "is_drawing(bench, thing) drawing_sum(bench, faces) drawing_of(bench) drawing_fault(task, faces)",
+    "greatest": "greatest_orders(task, chosen) least_barred(task, chosen) least_ends(task, index, chosen)",
+    "anytoany": "any_to_any(bench, many) most_any(bench)",
+    "sealed": "sealed_task(h) sealed_model(h) sealed_home(h, content) sealed_next(h, content) "
+              "sealed_way(h, start, goal) most_rests(places) places_for(many)",
 }
 
 PLAYER = ("order(index) die() step() undo() content_now() rest_now() order_now() at_now() ended_now() deeds_done() "
