@@ -1,9 +1,40 @@
 """Places, contents and steps of a bench, shortest ways, what is reached, pieces, orders put in."""
 
+# All moves of a place with so many values, in ascending order.
+FREE_MOVES = {
+    2: ((0, 1), (1, 0)),
+    3: (
+        (0, 1), (0, 2),
+        (1, 0), (1, 2),
+        (2, 0), (2, 1),
+    ),
+    4: (
+        (0, 1), (0, 2), (0, 3),
+        (1, 0), (1, 2), (1, 3),
+        (2, 0), (2, 1), (2, 3),
+        (3, 0), (3, 1), (3, 2),
+    ),
+    5: (
+        (0, 1), (0, 2), (0, 3), (0, 4),
+        (1, 0), (1, 2), (1, 3), (1, 4),
+        (2, 0), (2, 1), (2, 3), (2, 4),
+        (3, 0), (3, 1), (3, 2), (3, 4),
+        (4, 0), (4, 1), (4, 2), (4, 3),
+    ),
+    6: (
+        (0, 1), (0, 2), (0, 3), (0, 4), (0, 5),
+        (1, 0), (1, 2), (1, 3), (1, 4), (1, 5),
+        (2, 0), (2, 1), (2, 3), (2, 4), (2, 5),
+        (3, 0), (3, 1), (3, 2), (3, 4), (3, 5),
+        (4, 0), (4, 1), (4, 2), (4, 3), (4, 5),
+        (5, 0), (5, 1), (5, 2), (5, 3), (5, 4),
+    ),
+}
+
 
 def free_place(many):
     """Return the place with so many values that has all moves."""
-    return (many, tuple([(v, w) for v in range(many) for w in range(many) if v != w]))
+    return (many, FREE_MOVES[many])
 
 
 def slide_place(many):

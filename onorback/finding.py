@@ -18,16 +18,13 @@ class Search:
     def __init__(self, bench, rests):
         self.ground = Ground(bench)
         self.rests = [self.ground.numbers[rest] for rest in rests]
+        self._rests_told = rests
         self._homes = {}
         self._ways = {}
 
     def numbered(self, orders):
         """Return the list of the orders with numbers for start and goal, and the places of their ends."""
-        numbers = self.ground.numbers
-        made = []
-        for start, goal, ends in orders:
-            made.append((numbers[start], numbers[goal], [self.rests.index(numbers[end]) for end in ends]))
-        return made
+        return self.ground.numbered(self._rests_told, orders)
 
     def first_dealing(self):
         """Return the dealing in which only the rests are dealt."""
@@ -86,9 +83,9 @@ class Search:
             away |= part & ~self.home_from(k, part)
         if away:
             number = first_number(away)
-            k = [k for k, part in enumerate(parts) if part & (1 << number)][0]
-            way = least_numbers(self.ground, number, self.rests[k], parts[k] | free)
-            return (_first_free(way, free), self._turn([k]))
+            home = [k for k, part in enumerate(parts) if part & (1 << number)][0]
+            way = least_numbers(self.ground, number, self.rests[home], parts[home] | free)
+            return (_first_free(way, free), self._turn([home]))
         for order in orders:
             if not self.is_served(dealing, order):
                 way = least_numbers(self.ground, order[0], order[1], _mask_of_hopes(dealing, order))

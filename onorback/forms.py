@@ -1,7 +1,11 @@
-"""Whether a value is a place, a bench, a content, a task, a plan or a model."""
+"""Whether a value is a place, a bench, a content, a task, a plan or a model.
 
-from onorback.benches import steps_home
-from onorback.serving import serving_way
+Whole tuples are compared with right ones where that will do, as it takes least time. As True is equal to 1, and
+False to 0, there may still be truths in what is equal to something right; these are looked for on their own.
+"""
+
+from onorback.benches import FREE_MOVES
+from onorback.masks import are_model, hang_together
 
 
 def is_integer(thing):
@@ -13,12 +17,9 @@ def _is_tuple_of(thing, many):
     return isinstance(thing, tuple) and len(thing) == many
 
 
-def _is_below(thing, many):
-    return is_integer(thing) and 0 <= thing < many
-
-
-def _ascends(items):
-    return all([items[k] < items[k + 1] for k in range(len(items) - 1)])
+def ascends(items):
+    """Tell whether each item is less than the next one."""
+    return not [k for k in range(len(items) - 1) if items[k] >= items[k + 1]]
 
 
 def is_place(thing):
@@ -28,13 +29,10 @@ def is_place(thing):
     many, moves = thing
     if not is_integer(many) or not 2 <= many <= 6 or not isinstance(moves, tuple):
         return False
-    return all([_is_move(many, move) for move in moves]) and _ascends(moves)
-
-
-def _is_move(many, thing):
-    if not _is_tuple_of(thing, 2):
+    free = FREE_MOVES[many]
+    if moves != free and ([move for move in moves if move not in free] or not ascends(moves)):
         return False
-    return _is_below(thing[0], many) and _is_below(thing[1], many) and thing[0] != thing[1]
+    return not [v for v, w in moves if v is True or v is False or w is True or w is False]
 
 
 def is_bench(thing):
@@ -44,27 +42,31 @@ def is_bench(thing):
 
 def is_content(bench, thing):
     """Tell whether a value is a content of a bench."""
-    if not _is_tuple_of(thing, len(bench)):
-        return False
-    return all([_is_below(value, place[0]) for place, value in zip(bench, thing)])
+    return are_contents(bench, (thing,))
 
 
 def is_step(bench, thing):
     """Tell whether a value is a step of a bench."""
-    if not _is_tuple_of(thing, 2):
+    if not _is_tuple_of(thing, 2) or not is_content(bench, thing[0]) or not is_content(bench, thing[1]):
         return False
-    one, other = thing
-    if not is_content(bench, one) or not is_content(bench, other):
-        return False
-    changed = [k for k in range(len(bench)) if one[k] != other[k]]
-    return len(changed) == 1 and (one[changed[0]], other[changed[0]]) in bench[changed[0]][1]
+    return leads(bench, thing[0], thing[1])
+
+
+def leads(bench, one, other):
+    """Tell whether there is a step from a content to another one."""
+    moved = [(v, w, place[1]) for v, w, place in zip(one, other, bench) if v != w]
+    return len(moved) == 1 and moved[0][:2] in moved[0][2]
 
 
 def are_contents(bench, thing):
     """Tell whether a value is an ascending tuple of contents."""
-    if not isinstance(thing, tuple):
+    if not isinstance(thing, tuple) or [content for content in thing if not _is_tuple_of(content, len(bench))]:
         return False
-    return all([is_content(bench, content) for content in thing]) and _ascends(thing)
+    wrong = [
+        value for content in thing for value, place in zip(content, bench)
+        if not isinstance(value, int) or value is True or value is False or not 0 <= value < place[0]
+    ]
+    return not wrong and ascends(thing)
 
 
 def is_task(thing):
@@ -72,24 +74,22 @@ def is_task(thing):
     if not _is_tuple_of(thing, 3):
         return False
     bench, rests, orders = thing
-    if not is_bench(bench) or not are_contents(bench, rests) or len(rests) == 0:
+    return is_bench(bench) and are_contents(bench, rests) and len(rests) > 0 and are_orders(rests, orders)
+
+
+def are_orders(rests, thing):
+    """Tell whether a value is an ascending tuple of orders, no two with the same start and goal."""
+    if not isinstance(thing, tuple) or [order for order in thing if not _is_tuple_of(order, 3)]:
         return False
-    if not isinstance(orders, tuple):
+    if [start for start, goal, ends in thing if start == goal or not isinstance(ends, tuple)]:
         return False
-    known = {rest: True for rest in rests}
-    if not all([_is_order(bench, known, order) for order in orders]):
+    told = [rest for start, goal, ends in thing for rest in (start, goal) + ends]
+    if [rest for rest in told if rest not in rests]:
+        return False
+    if [value for rest in told for value in rest if value is True or value is False]:
         return False
     # Start and goal alone must ascend: no two orders may have the same ones.
-    return _ascends([order[:2] for order in orders])
-
-
-def _is_order(bench, rests, thing):
-    if not _is_tuple_of(thing, 3):
-        return False
-    start, goal, ends = thing
-    if not is_content(bench, start) or not is_content(bench, goal) or not are_contents(bench, ends):
-        return False
-    return start != goal and all([rest in rests for rest in (start, goal) + ends])
+    return not [ends for _, _, ends in thing if not ascends(ends)] and ascends([order[:2] for order in thing])
 
 
 def is_rule(task, thing):
@@ -99,7 +99,7 @@ def is_rule(task, thing):
         return False
     known = {rest: True for rest in rests}
     firsts = [row[0] for row in thing]
-    return _ascends(firsts) and not any([content in known for content in firsts])
+    return ascends(firsts) and not any([content in known for content in firsts])
 
 
 def is_ways(task, thing):
@@ -125,6 +125,11 @@ def is_plan(task, thing):
 
 def is_lots(task, thing):
     """Tell whether a value is lots of a task, whatever they serve."""
+    return _are_apart(task, thing) and hang_together(task, thing)
+
+
+def _are_apart(task, thing):
+    """Tell whether a value is a lot for each rest of a task, none of which has other rests or what others have."""
     bench, rests, _ = task
     if not _is_tuple_of(thing, len(rests)) or not all([are_contents(bench, lot) for lot in thing]):
         return False
@@ -133,15 +138,9 @@ def is_lots(task, thing):
         for content in lot:
             if owners.setdefault(content, k) != k:
                 return False
-    return all([_hangs_together(bench, lot, rest) for lot, rest in zip(thing, rests)])
-
-
-def _hangs_together(bench, lot, rest):
-    return rest in lot and len(steps_home(bench, lot, rest)) == len(lot)
+    return True
 
 
 def is_model(task, thing):
     """Tell whether a value is lots of a task that serve all its orders."""
-    if not is_lots(task, thing):
-        return False
-    return all([serving_way(task, thing, index) is not None for index in range(len(task[2]))])
+    return _are_apart(task, thing) and are_model(task, thing)

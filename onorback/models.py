@@ -4,7 +4,7 @@ from onorback.benches import contents_of, steps_from, steps_home
 from onorback.errors import NotKept, NotServed
 from onorback.homes import homes_of
 from onorback.judging import broken_orders
-from onorback.serving import serving_way
+from onorback.masks import serving_way
 
 
 def served_way(task, lots, index):

@@ -3,8 +3,10 @@
 A reading function for one line returns None if the line is bad.
 """
 
+from onorback.benches import contents_of
 from onorback.errors import NoText, Wrong
-from onorback.forms import are_contents, is_model, is_place, is_rule, is_task, is_ways
+from onorback.forms import are_contents, are_orders, ascends, is_content, is_place, is_task, leads
+from onorback.masks import are_model, is_large
 from onorback.texts import order_words, place_words
 
 DIGITS = "0123456789"
@@ -31,7 +33,7 @@ def read_task(text):
     rests = _good(_rests_of(bench, said[many][1]), said[many][0])
     orders = []
     for index, words in said[many + 1:]:
-        orders.append(_good(_order_of(bench, rests, orders, words), index))
+        orders.append(_good(_order_of(rests, orders, words), index))
     return (bench, rests, tuple(orders))
 
 
@@ -39,13 +41,17 @@ def read_plan(task, text):
     """Return the plan of a task that a text writes."""
     _ask_task(task)
     _ask_string(text, 1)
+    known = {}
     rule = []
     ways = []
-    for index, words in _said(text):
-        if words[0] == "row" and not ways:
-            rule.append(_good(_row_of(task, rule, words), index))
-        else:
-            ways.append(_good(_way_of(task, len(ways), words), index))
+    for index, line in enumerate(text.split("\n")):
+        words = _words_of(line)
+        if words:
+            known = known or _known_in(task[0], words[0], ("row", "way"), text)
+            if words[0] == "row" and not ways:
+                rule.append(_good(_row_of(task, rule, _known_contents(known, words)), index))
+            else:
+                ways.append(_good(_way_of(task, len(ways), words[0], _known_contents(known, words)), index))
     if len(ways) < len(task[2]):
         raise NoText(_count_lines(text))
     return (tuple(rule), tuple(ways))
@@ -55,14 +61,18 @@ def read_model(task, text):
     """Return the model of a task that a text writes."""
     _ask_task(task)
     _ask_string(text, 1)
+    known = {}
     owners = {rest: k for k, rest in enumerate(task[1])}
     lots = []
-    for index, words in _said(text):
-        lot = _good(_lot_of(task, owners, len(lots), words), index)
-        for content in lot:
-            owners[content] = len(lots)
-        lots.append(lot)
-    if not is_model(task, tuple(lots)):
+    for index, line in enumerate(text.split("\n")):
+        words = _words_of(line)
+        if words:
+            known = known or _known_in(task[0], words[0], ("lot",), text)
+            lot = _good(_lot_of(task, owners, len(lots), words[0], _known_contents(known, words)), index)
+            for content in lot:
+                owners[content] = len(lots)
+            lots.append(lot)
+    if len(lots) < len(task[1]) or not are_model(task, lots):
         raise NoText(_count_lines(text))
     return tuple(lots)
 
@@ -89,12 +99,43 @@ def _count_lines(text):
 
 def _said(text):
     """Return the list of the tuples (index, words) for the lines that say something."""
-    said = []
-    for index, line in enumerate(text.split("\n")):
-        words = [word for word in line.split(" ") if word != ""]
-        if words and not words[0].startswith("#"):
-            said.append((index, words))
-    return said
+    told = [(index, _words_of(line)) for index, line in enumerate(text.split("\n"))]
+    return [(index, words) for index, words in told if words]
+
+
+def _words_of(line):
+    """Return the list of the words of a line, [] if it says nothing."""
+    words = line.split(" ")
+    if "" in words:
+        words = [word for word in words if word != ""]
+    if words and words[0].startswith("#"):
+        return []
+    return words
+
+
+def _known_in(bench, head, heads, text):
+    """Return a dict from words to the contents that they write, with all that a text has.
+
+    It is {} if a line with this first word is bad anyway.
+    """
+    if head not in heads:
+        return {}
+    if is_large(bench):
+        words = text.replace("\n", " ").split(" ")
+        told = {word: _contents_of([word])[0] for word in words}
+        return {word: told[word] for word in told if is_content(bench, told[word])}
+    words = [""]
+    for many, _ in bench:
+        words = [word + digit for word in words for digit in DIGITS[:many]]
+    return {word: content for word, content in zip(words, contents_of(bench))}
+
+
+def _known_contents(known, words):
+    """Return the tuple of the contents that the words behind the first one write, or None if some do not."""
+    contents = tuple([known.get(word) for word in words[1:]])
+    if None in contents:
+        return None
+    return contents
 
 
 def _digit(sign):
@@ -130,14 +171,14 @@ def _move_of(word):
 
 def _rests_of(bench, words):
     rests = _contents_of(words[1:])
-    if not is_task((bench, rests, ())):
+    if not are_contents(bench, rests) or not rests:
         return None
     return rests
 
 
-def _order_of(bench, rests, orders, words):
+def _order_of(rests, orders, words):
     order = _told_order(words)
-    if not is_task((bench, rests, (order,))):
+    if not are_orders(rests, (order,)):
         return None
     if orders and order[:2] <= orders[-1][:2]:
         return None
@@ -158,28 +199,27 @@ def _told_order(words):
     return None
 
 
-def _row_of(task, rule, words):
-    row = _contents_of(words[1:])
-    if not is_rule(task, (row,)):
+def _row_of(task, rule, row):
+    if row is None or len(row) != 2 or row[0] in task[1]:
         return None
-    if rule and row[0] <= rule[-1][0]:
+    if not leads(task[0], row[0], row[1]) or rule and row[0] <= rule[-1][0]:
         return None
     return row
 
 
-def _way_of(task, k, words):
-    way = _contents_of(words[1:])
-    bench, rests, orders = task
+def _way_of(task, k, head, way):
+    bench, _, orders = task
     # Behind the last order there is none to be served, and then a way is one too many.
-    if words[0] != "way" or not is_ways((bench, rests, orders[k:k + 1]), (way,)):
+    if head != "way" or not way or k >= len(orders) or (way[0], way[-1]) != orders[k][:2]:
+        return None
+    if [at for at in range(len(way) - 1) if not leads(bench, way[at], way[at + 1])]:
         return None
     return way
 
 
-def _lot_of(task, owners, k, words):
-    lot = _contents_of(words[1:])
-    if words[0] != "lot" or k >= len(task[1]) or not are_contents(task[0], lot):
+def _lot_of(task, owners, k, head, lot):
+    if head != "lot" or lot is None or k >= len(task[1]) or task[1][k] not in lot or not ascends(lot):
         return None
-    if task[1][k] not in lot or any([owners.get(content, k) != k for content in lot]):
+    if [content for content in lot if owners.get(content, k) != k]:
         return None
     return lot

@@ -106,6 +106,16 @@ class FormsTest(unittest.TestCase):
         self.assertIs(forms.is_task((bench, ((0,) * 3000, (1,) * 3000), ())), True)
         self.assertIs(forms.is_task((bench, ((0,) * 3000, (1,) * 2999 + (True,)), ())), False)
 
+    def test_lots_of_large_benches(self):
+        for many in [6, 7, 300]:
+            bench = ((2, TWO_WAY),) * many
+            a, b, c = (0,) * many, (0,) * (many - 1) + (1,), (0,) * (many - 2) + (1, 1)
+            task = (bench, (a, c), ((a, c, (c,)),))
+            for lots, right, serving in [(((a,), (b, c)), True, True), (((a, b), (c,)), True, False), (((a, c), (b,)), False, False),
+                                         (((a,), (c, (1,) * many)), False, False), (((a,), (b,)), False, False)]:
+                self.assertIs(forms.is_lots(task, lots), right)
+                self.assertIs(forms.is_model(task, lots), serving)
+
     def test_bent_ones(self):
         rng = random.Random(1)
         for _ in range(12):

@@ -105,6 +105,8 @@ class ReaderTest(unittest.TestCase):
             self.bad(read_task, HEAD + "on 00 01\n\n" + line, 5)
         for line in ["on 00 01", "order 00 11 to", "either 00 11", "back 00 01"]:
             self.bad(read_task, HEAD + "on 00 11\n" + line, 4)
+        self.bad(read_task, HEAD + "on 00 01\non 01 00\non 00 11", 5)
+        self.bad(read_task, HEAD + "on 00 01\non 01 00\non 01 00", 5)
         self.assertEqual(len(read_task(HEAD + "on 00 11\non 01 00\non 01 11\non 11 00\non 11 01")[2]), 5)
 
     def test_what_lacks(self):
@@ -153,6 +155,21 @@ class ReaderTest(unittest.TestCase):
         self.assertEqual(read_model((rise, (C,), ()), "lot 01 11"), ((B, C),))
         self.bad(lambda told: read_model(TASK, told), "lot 00\nlot 11\n", 3)
         self.bad(lambda told: read_model((rise, (A,), ()), told), text, 2)
+
+    def test_large_benches(self):
+        for many in [7, 300]:
+            bench = (free_place(2),) * many
+            first, other, last = "0" * many, "0" * (many - 1) + "1", "0" * (many - 2) + "11"
+            a, b, c = [tuple(map(int, word)) for word in (first, other, last)]
+            task = (bench, (a, c), ((a, c, (a, c)), (c, a, (c,))))
+            rows = f"row {other} {first}\nway {first} {other} {last}\nway {last} {other} {first}"
+            self.assertEqual(read_plan(task, rows), (((b, a),), ((a, b, c), (c, b, a))))
+            self.assertEqual(read_model(task, f"lot {first}\n\nlot {other}  {last}"), ((a,), (b, c)))
+            for text, line in [(f"lot {first} {other}\nlot {last}", 2), (f"lot {first}\nlot {other}0 {last}", 1),
+                               (f"lot {first}\nlot {last}", 2), (f"lot {first}\nlot {other} {last} {'1' * many}", 2)]:
+                self.bad(lambda told: read_model(task, told), text, line)
+            for text, line in [("", 1), (rows + "0", 2), (rows.replace("row", "Row"), 0), (rows[:-many], 2)]:
+                self.bad(lambda told: read_plan(task, told), text, line)
 
     def test_lines_that_are_bent(self):
         rng = random.Random(12)
