@@ -1,7 +1,7 @@
 """Which orders a plan keeps, where it breaks the others, and stories that show it."""
 
 from onorback.forms import is_integer
-from onorback.homes import home_of, homes_of, rows_of, trail_from
+from onorback.homes import homes_by_rows, homes_of, rows_of, trail_from
 
 
 def keeps_order(task, plan, index):
@@ -21,17 +21,18 @@ def broken_orders(task, plan):
 
 def first_break(task, plan, index):
     """Return the first place in an order's way with a wrong home, and this home, or None."""
-    places = _breaks(task, plan, index)
-    if not places:
+    breaks = _breaks(task, plan, index)
+    if not breaks:
         return None
-    return (places[0], home_of(task, plan[0], plan[1][index][places[0]]))
+    return breaks[0]
 
 
 def _breaks(task, plan, index):
-    """Return the list of the places in an order's way at which the first hand must not die."""
+    """Return the list of the places in an order's way at which the first hand must not die, with the homes there."""
     way = plan[1][index]
     ends = task[2][index][2]
-    return [at for at in range(1, len(way) - 1) if home_of(task, plan[0], way[at]) not in ends]
+    homes = homes_by_rows(task, rows_of(plan[0]), way)
+    return [(at, homes[way[at]]) for at in range(1, len(way) - 1) if homes[way[at]] not in ends]
 
 
 def story_of(task, plan, index):
@@ -56,7 +57,7 @@ def is_story(task, plan, index, thing):
 def _stories(task, plan, index):
     rows = rows_of(plan[0])
     stories = []
-    for at in _breaks(task, plan, index):
+    for at, _ in _breaks(task, plan, index):
         many = _steps_of_next_hand(rows, plan[1][index][at])
         stories.append([("order", index)] + [("step",)] * at + [("die",)] + [("step",)] * many)
     return stories

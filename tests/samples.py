@@ -249,3 +249,157 @@ def as_truths(value):
                 yield value[:k] + (bent,) + value[k + 1:]
     elif value in (0, 1):
         yield bool(value)
+
+
+def forest_rule(rng, task, often):
+    """A rule by which contents are led home as rows are put to what has a home already; some may have none."""
+    rows = []
+    homes = set(task[1])
+    while True:
+        ways = [(one, other) for one in contents(task[0]) if one not in homes
+                for other in next_ones(task[0], one) if other in homes]
+        if not ways or rng.random() > often:
+            return tuple(sorted(rows))
+        row = rng.choice(ways)
+        rows.append(row)
+        homes.add(row[0])
+
+
+def homes_by(task, rule):
+    rows = dict(rule)
+    homes = {}
+    for content in contents(task[0]):
+        here = content
+        for _ in range(len(rows) + 1):
+            here = rows.get(here, here)
+        homes[content] = here if here in task[1] else None
+    return homes
+
+
+def kept_ends(rng, rests, start, goal, needed):
+    """Ends among which all that are needed are, as few as may be, or more."""
+    kind = rng.randrange(4)
+    ends = set(needed)
+    if kind == 1:
+        ends |= {start, goal}
+    if kind == 2:
+        ends |= {rng.choice([start, goal])}
+    if kind == 3:
+        ends |= set(rng.sample(rests, rng.randint(0, len(rests))))
+    return tuple(sorted(ends))
+
+
+def random_kept(rng, most=12, longest=7, returning=True, bench=None):
+    """A task with a plan that keeps it; its orders come back, if this is asked."""
+    bench = bench or random_bench(rng, most)
+    everywhere = contents(bench)
+    rests = tuple(sorted(rng.sample(everywhere, rng.randint(1, min(5, len(everywhere) - 1)))))
+    rule = forest_rule(rng, (bench, rests, ()), rng.choice([0.7, 0.95, 1, 1]))
+    if rng.random() < 0.3:
+        rule = random_rule(rng, (bench, rests, ()), 0.9)
+    homes = homes_by((bench, rests, ()), rule)
+    planned = []
+    for start, goal in product(rests, rests):
+        way = random_way(rng, bench, start, goal, rng.randint(2, longest)) if start != goal else None
+        if way is not None and rng.random() < 0.7 and all(homes[content] for content in way[1:-1]):
+            needed = {homes[content] for content in way[1:-1]}
+            planned.append(((start, goal, kept_ends(rng, rests, start, goal, needed)), way))
+    while returning and not all_return(rests, [order for order, _ in planned]):
+        planned.remove(rng.choice(planned))
+    orders = tuple(order for order, _ in planned)
+    return (bench, rests, orders), (rule, tuple(way for _, way in planned))
+
+
+def all_return(rests, orders):
+    """Whether the start of each order can be come to again from its goal and from its ends."""
+    ahead = {rest: {rest} for rest in rests}
+    for _ in rests:
+        for start, goal, _ in orders:
+            ahead[start] |= ahead[goal]
+    return all(start in ahead[rest] for start, goal, ends in orders for rest in (goal,) + ends)
+
+
+def exchanged(rng, items, others):
+    """The list with an item exchanged, left out, added, doubled, or two in another order."""
+    items = list(items)
+    kind = rng.randrange(5)
+    at = rng.randrange(len(items) + 1)
+    if kind == 0 and items:
+        items[rng.randrange(len(items))] = rng.choice(others)
+    elif kind == 1 and items:
+        del items[rng.randrange(len(items))]
+    elif kind == 2:
+        items.insert(at, rng.choice(others))
+    elif kind == 3 and items:
+        items.insert(at, rng.choice(items))
+    elif len(items) > 1:
+        one, other = rng.sample(range(len(items)), 2)
+        items[one], items[other] = items[other], items[one]
+    return items
+
+
+STURDY = [(slide(5),), (slide(6),), (free(2),) * 3, (free(2),) * 3, (free(2),) * 4, (free(3),) * 2, (slide(4), free(2)),
+          (slide(3), slide(3)), (dial(6),), (free(2), free(2), free(3)), (slide(5), slide(2)), (slide(6), slide(3))]
+
+
+def sturdy_kept(rng):
+    """A task with a plan that keeps it, with few rests far from each other, and EITHER orders both ways."""
+    bench = rng.choice(STURDY)
+    everywhere = contents(bench)
+    rests = [rng.choice(everywhere[:3])]
+    for _ in range(rng.choice([1, 1, 2])):
+        apart = [min(sum(abs(v - w) for v, w in zip(content, rest)) for rest in rests) for content in everywhere]
+        rests.append(everywhere[rng.choice([k for k in range(len(apart)) if apart[k] == max(apart)])])
+    rests = tuple(sorted(rests))
+    rule = near_rule(rng, bench, rests)
+    homes = homes_by((bench, rests, ()), rule)
+    planned = []
+    for start, goal in product(rests, rests):
+        way = open_way(rng, bench, homes, start, goal) if start != goal else None
+        if way is not None and rng.random() < 0.9:
+            planned.append(((start, goal, tuple(sorted([start, goal]))), way))
+    while not all_return(rests, [order for order, _ in planned]):
+        planned.remove(rng.choice(planned))
+    return (bench, rests, tuple(order for order, _ in planned)), (rule, tuple(way for _, way in planned))
+
+
+def near_rule(rng, bench, rests):
+    """A rule that leads each content to one of the rests nearest to it."""
+    homes = {rest: rest for rest in rests}
+    rows = []
+    layer = list(rests)
+    while layer:
+        ahead = [(one, other) for other in layer for one in next_ones(bench, other) if one not in homes]
+        rng.shuffle(ahead)
+        layer = []
+        for one, other in ahead:
+            if one not in homes:
+                homes[one] = homes[other]
+                rows.append((one, other))
+                layer.append(one)
+    return tuple(sorted(rows))
+
+
+def open_way(rng, bench, homes, start, goal):
+    """A way through contents whose homes are start or goal, with a detour at times, or None."""
+    def stretch(one, other):
+        ways = [[one]]
+        met = {one}
+        while ways:
+            longer = []
+            for way in ways:
+                for content in rng.sample(next_ones(bench, way[-1]), len(next_ones(bench, way[-1]))):
+                    if content == other:
+                        return way + [content]
+                    if content not in met and homes[content] in (start, goal):
+                        met.add(content)
+                        longer.append(way + [content])
+            ways = longer
+        return None
+    inside = [content for content in homes if homes[content] in (start, goal) and content != start]
+    if rng.random() < 0.3:
+        amid = rng.choice(inside)
+        first, second = stretch(start, amid), stretch(amid, goal) if amid != goal else [goal]
+        return tuple(first + second[1:]) if first and second else None
+    way = stretch(start, goal)
+    return tuple(way) if way else None

@@ -22,7 +22,7 @@ LISTED = {
     ast.JoinedStr, ast.Constant, ast.Attribute, ast.Subscript, ast.Starred, ast.Name, ast.List, ast.Tuple, ast.Slice,
     ast.Load, ast.Store, ast.Delete, ast.Del, ast.BitAnd, ast.BitOr, ast.BitXor, ast.Invert, ast.LShift,
 }
-LIBRARY = {("itertools", "combinations"), ("math", "isqrt")}
+LIBRARY = {("itertools", "combinations"), ("math", "isqrt"), ("heapq", "heappop"), ("heapq", "heappush")}
 BARRED = re.compile(r"_wall\w*|_WallAttr\w*|_(pe|dcw|enum|cm|twin_re|lay|law|stub)_\w*|_sre\w*"
                     r"|_(cold|tuplegetter|outside|record|written_out|member_names)[\d_]*"
                     r"|register|mro|elements|open|input|law|version_info|with_traceback|add_note|type|typing|enum")
@@ -104,20 +104,33 @@ class LanguageTest(unittest.TestCase):
                 self.assertFalse(name != "_" and hasattr(builtins, name), where)
                 self.assertNotRegex(name, r"^__")
 
+    def names_of_classes(self):
+        """Where type(x).__name__ is read, the one use of this word."""
+        for where, node in self.nodes(ast.Attribute):
+            if node.attr == "__name__":
+                self.assertIsInstance(node.value, ast.Call, where)
+                self.assertIsInstance(node.value.args[0], ast.Name, where)
+                self.assertEqual((node.value.func.id, len(node.value.args)), ("type", 1), where)
+                yield where, "type"
+
     def test_barred_words(self):
+        named = list(self.names_of_classes())
         for where, node in self.nodes(ast.Name, ast.Attribute, ast.arg, ast.FunctionDef, ast.ClassDef, ast.keyword):
             for field in ["id", "attr", "arg", "name"]:
                 word = getattr(node, field, None)
-                if isinstance(word, str):
+                if isinstance(word, str) and (where, word) not in named:
                     self.assertIsNone(BARRED.fullmatch(word), where)
 
     def test_calls(self):
         own = {node.name for _, node in self.nodes(ast.FunctionDef)}
         classes = {node.name for _, node in self.nodes(ast.ClassDef)}
         library = {name for _, name in LIBRARY}
+        named = list(self.names_of_classes())
         for where, node in self.nodes(ast.Call):
-            if isinstance(node.func, ast.Name):
+            if isinstance(node.func, ast.Name) and (where, node.func.id) not in named:
                 self.assertIn(node.func.id, own | classes | library | CALLED, where)
+            elif isinstance(node.func, ast.Name):
+                self.assertFalse(node.keywords, where)
             else:
                 self.assertIn(node.func.attr, METHODS | own, where)
             for keyword in node.keywords:
