@@ -14,6 +14,9 @@ def any_to_any(bench, many):
     contents = contents_of(bench)
     if len(contents) > MOST_CONTENTS:
         raise TooMany(MOST_CONTENTS)
+    # What deals with lengths takes no number of any greatness.
+    if many > len(contents):
+        return None
     for rests in combinations(contents, many):
         # The bench is so small that the search ends soon, however many cases it has.
         model = Search(bench, rests).model_for(orders_any_to_any(rests), None)

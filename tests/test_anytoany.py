@@ -39,6 +39,16 @@ class AnyToAnyTest(unittest.TestCase):
         for many in [10, 11, 30]:
             self.assertIsNone(any_to_any((free_place(3), free_place(3)), many))
 
+    def test_great_numbers(self):
+        for bench in [(free_place(2),), (slide_place(3),), (dial_place(5),), (rise_place(6),), (free_place(2), free_place(2)),
+                      (free_place(2),) * 3, (slide_place(4), free_place(2)), (free_place(3), slide_place(3)), ((2, ()),)]:
+            for many in [len(samples.contents(bench)) + 1, 2 ** 31, 2 ** 63 - 1, 2 ** 63, 10 ** 30, 10 ** 39]:
+                self.assertIsNone(any_to_any(bench, many))
+        for many in [1, 37, 2 ** 63 - 1, 2 ** 63, 10 ** 30]:
+            with self.assertRaises(TooMany) as caught:
+                any_to_any((free_place(2), slide_place(5)), many)
+            self.assertEqual(vars(caught.exception), {"most": 9})
+
     def test_nine_contents_at_most(self):
         for bench in [(slide_place(2), slide_place(5)), (free_place(2),) * 4, (rise_place(6), rise_place(6))]:
             for ask in [lambda: any_to_any(bench, 1), lambda: any_to_any(bench, 99), lambda: most_any(bench)]:
