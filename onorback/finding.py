@@ -21,6 +21,7 @@ class Search:
         self._rests_told = rests
         self._homes = {}
         self._ways = {}
+        self._last_ways = {}
 
     def numbered(self, orders):
         """Return the list of the orders with numbers for start and goal, and the places of their ends."""
@@ -48,6 +49,9 @@ class Search:
     def mask_lost(self, dealing, k):
         """Return the mask of what is dealt to the rest at place k, and may not come home."""
         parts, free = dealing
+        # A rest alone is at home, which need not be asked of the whole bench.
+        if parts[k] == 1 << self.rests[k]:
+            return 0
         return parts[k] & ~self.home_from(k, parts[k] | free)
 
     def is_served(self, dealing, order):
@@ -61,8 +65,19 @@ class Search:
     def _is_led(self, order, inside):
         start, goal, _ = order
         if (start, goal, inside) not in self._ways:
-            self._ways[(start, goal, inside)] = is_led(self.ground, start, goal, inside)
+            self._ways[(start, goal, inside)] = self._has_way(start, goal, inside)
         return self._ways[(start, goal, inside)]
+
+    def _has_way(self, start, goal, inside):
+        # The way that was found last is often still open.
+        last = self._last_ways.get((start, goal))
+        if last is not None and last & ~inside == 0:
+            return True
+        if not is_led(self.ground, start, goal, inside):
+            return False
+        way = least_numbers(self.ground, start, goal, inside)
+        self._last_ways[(start, goal)] = sum([1 << number for number in way[1:-1]])
+        return True
 
     def fault(self, dealing, orders):
         """Return what shows that a dealing is shut, a leaf of a tree of cases, or None."""

@@ -12,6 +12,12 @@ from onorback.texts import order_words, place_words
 DIGITS = "0123456789"
 
 
+def content_told(bench, word):
+    """Return the content of a bench that a word writes, or None."""
+    content = _contents_of([word])[0]
+    return content if is_content(bench, content) else None
+
+
 def read_bench(text):
     """Return the bench that a text writes."""
     _ask_string(text, 0)

@@ -59,12 +59,13 @@ def _order_line(order):
     for word, known in order_words(start, goal):
         if known == order:
             return _line(word, (start, goal))
-    return " ".join([_line("order", (start, goal)), "to"] + [_shown(end) for end in ends])
+    return " ".join([_line("order", (start, goal)), "to"] + [show_content(end) for end in ends])
 
 
 def _line(word, contents):
-    return " ".join([word] + [_shown(content) for content in contents])
+    return " ".join([word] + [show_content(content) for content in contents])
 
 
-def _shown(content):
+def show_content(content):
+    """Return the word that writes a content."""
     return "".join([str(value) for value in content])

@@ -104,6 +104,66 @@ True
 >>> [sealed_home(1, (0, 1, 1)), sealed_next(1, (0, 1, 1)), sealed_next(1, (1, 1, 1))]
 [(1, 0, 0), (1, 1, 1), (1, 1, 0)]
 ''',
+    "behind [52]": '''
+>>> from onorback.benches import slide_place
+>>> from onorback.leastlog import least_meeting, least_values
+>>> from onorback.logs import bears_couples, cover_layers, log_task
+>>> bench, couples = (slide_place(3),), (((0,), (2,)),)
+>>> log_task(bench, couples, 2)[1]
+((0, 0), (1, 0), (2, 0))
+>>> [least_meeting(couples), cover_layers(bench, ((0,),)), least_values(bench, couples, 6)[0]]
+[((0,),), (((0,), (0,), (0,)),), 2]
+>>> [bears_couples(bench, couples, (((0,), (0,), None),)), bears_couples(bench, couples, (((0,), (0,), (2,)),))]
+[False, True]
+''',
+    "behind [56]": '''
+>>> from onorback.benches import either_order, slide_place
+>>> from onorback.late import is_barrier, late_deeds_in, late_distance
+>>> from onorback.situations import deeds_from
+>>> task = ((slide_place(3),), ((0,), (2,)), (either_order((0,), (2,)), either_order((2,), (0,))))
+>>> plan = ((((1,), (0,)),), (((0,), (1,), (2,)), ((2,), (1,), (0,))))
+>>> late_distance(task, plan)
+1
+>>> deeds_from(task, plan, ((1,), 0, 1))
+[(('die',), ((1,), 0, -1)), (('late', 0, 1), ((2,), -1, -1)), (('late', 1, 1), ((0,), -1, -1)), (('step',), ((2,), -1, -1))]
+>>> deeds_from(task, plan, ((2,), -1, -1))
+[(('late', 1, 0), None), (('order', 1), ((2,), 1, 0))]
+>>> late_deeds_in(task, plan, ((2,), [("late", 1, 0)]))
+1
+''',
+    "behind [60]": '''
+>>> from onorback.benches import either_order, slide_place
+>>> from onorback.both import bears, breaking_pairs
+>>> from onorback.wrong import wrong_distance, wrong_story
+>>> rests = ((0,), (4,))
+>>> task = ((slide_place(5),), rests, (either_order((0,), (4,)), either_order((4,), (0,))))
+>>> rule = (((1,), (0,)), ((2,), (1,)), ((3,), (4,)))
+>>> plan = (rule, (((0,), (1,), (2,), (3,), (4,)), ((4,), (3,), (2,), (1,), (0,))))
+>>> [wrong_distance(task, plan), breaking_pairs(task, plan), bears(task, plan, 1, 0)]
+[1, [(0, 1), (2, 0)], True]
+''',
+    "behind [64]": '''
+>>> from onorback.looks import action_by, least_looks, looks_depth
+>>> from onorback.sides import both_order
+>>> bits = ((2, ((0, 1), (1, 0))), (2, ((0, 1), (1, 0))))
+>>> task = (bits, ((0, 0), (1, 1)), (((0, 0), (1, 1), ((1, 1),)),))
+>>> rule = (((0, 1), (1, 1)), ((1, 0), (1, 1)))
+>>> looks = ("look", 0, (("look", 1, (("rest",), ("put", 0, 1))), ("look", 1, (("put", 1, 1), ("rest",)))))
+>>> [least_looks(task, rule)[0], looks_depth(task, rule, looks), action_by(looks, (0, 1))]
+[2, 2, ('put', 0, 1)]
+>>> slide = (3, ((0, 1), (1, 0), (1, 2), (2, 1)))
+>>> line = ((slide,), ((0,), (2,)), (((0,), (2,), ((0,), (2,))),))
+>>> both_order(task, 0, line, 0)
+((0, 0, 0), (1, 1, 2), ((1, 1, 0), (1, 1, 2)))
+''',
+    "in [68]": r'''
+>>> from onorback.desk import Desk
+>>> desk = Desk("free 2\nfree 2\nrests 00 11\neither 00 11")
+>>> [desk.execute("task"), desk.execute("unrest 11"), desk.execute("drop 00 11"), desk.execute("undo")]
+[['free 2', 'free 2', 'rests 00 11', 'either 00 11'], ['refused InUse'], ['done'], ['done']]
+>>> [desk.execute("room"), desk.execute("rest 01"), desk.execute("promises")]
+[['1'], ['done'], []]
+''',
 }
 
 

@@ -34,10 +34,30 @@ FUNCTIONS = {
     "anytoany": "any_to_any(bench, many) most_any(bench)",
     "sealed": "sealed_task(h) sealed_model(h) sealed_home(h, content) sealed_next(h, content) "
               "sealed_way(h, start, goal) most_rests(places) places_for(many)",
+    "logs": "log_task(bench, couples, many) lots_of_layers(bench, layers) layers_of_lots(bench, many, lots) "
+            "cover_layers(bench, cover) bears_couples(bench, couples, thing)",
+    "leastlog": "least_values(bench, couples, most) least_meeting(couples)",
+    "situations": "begin_situations(task) deeds_from(task, plan, situation)",
+    "late": "late_distance(task, plan) late_deeds_in(task, plan, thing) late_story(task, plan) barrier_of(task, plan) "
+            "is_barrier(task, plan, many, thing)",
+    "wrong": "wrong_deeds_from(task, plan, situation) wrong_distance(task, plan) wrong_deeds_in(task, plan, thing) "
+             "wrong_story(task, plan) wrong_barrier_of(task, plan) is_wrong_barrier(task, plan, many, thing)",
+    "both": "mixed_deeds_in(task, plan, thing) mixed_story(task, plan, late, wrong) breaking_pairs(task, plan) "
+            "bears(task, plan, late, wrong)",
+    "sides": "side_task(one, other) side_model(one, model, other, its_model) side_plan(one, plan, other, its_plan) "
+             "both_order(one, index, other, its_index) both_way(one, plan, index, other, its_plan, its_index) "
+             "room_word(one, other)",
+    "looks": "least_looks(task, rule) least_rule(task, model, most) action_by(looks, content) "
+             "looks_depth(task, rule, thing)",
 }
 
-PLAYER = ("order(index) die() step() undo() content_now() rest_now() order_now() at_now() ended_now() deeds_done() "
-          "copied() __eq__(other) __init__(task, plan, rest)")
+CLASSES = {
+    "player.Player": "order(index) die() step() undo() content_now() rest_now() order_now() at_now() ended_now() deeds_done() "
+                     "copied() __eq__(other) __init__(task, plan, rest)",
+    "book.Book": "do(deed) task_now() plan_now() promises_now() deeds_done() undo() redo() copied() __eq__(other) "
+                 "__init__(task)",
+    "desk.Desk": "execute(line) book() __init__(text)",
+}
 
 
 def told(text):
@@ -57,12 +77,14 @@ class InterfaceTest(unittest.TestCase):
                 self.assertEqual(value.__module__, "onorback." + name)
                 self.assert_positional(value, arguments)
 
-    def test_player(self):
-        from onorback.player import Player
-        self.assertEqual(Player.__module__, "onorback.player")
-        for method, arguments in told(PLAYER):
-            self.assertIn(method, vars(Player))
-            self.assert_positional(vars(Player)[method], ["self"] + arguments)
+    def test_classes(self):
+        for name, text in CLASSES.items():
+            module, kind = name.split(".")
+            found = getattr(importlib.import_module("onorback." + module), kind)
+            self.assertEqual((found.__module__, found.__bases__), ("onorback." + module, (object,)))
+            for method, arguments in told(text):
+                self.assertIn(method, vars(found))
+                self.assert_positional(vars(found)[method], ["self"] + arguments)
 
     def assert_positional(self, value, arguments):
         parameters = inspect.signature(value).parameters
