@@ -27,10 +27,8 @@ class Desk:
             return answer
         if words in (["undo"], ["redo"]):
             return self._done(words[0], None)
-        deed = _deed_told(self._book.task_now()[0], words)
-        if deed is None:
-            raise NoCommand()
-        return self._done("do", deed)
+        # Where the words tell no deed, None is one as little for the Book.
+        return self._done("do", _deed_told(self._book.task_now()[0], words))
 
     def _done(self, word, deed):
         try:

@@ -25,7 +25,7 @@ class Sight:
         self._with_value = [[0] * many for many, _ in bench]
         self._known = {}
         for k, content in enumerate(actions):
-            self._masks[actions[content]] = self._masks.get(actions[content], 0) | 1 << k
+            self._masks[actions[content]] = self._masks.get(actions[content], 0) | (1 << k)
             for place, value in enumerate(content):
                 self._with_value[place][value] |= 1 << k
 
@@ -36,8 +36,6 @@ class Sight:
         return self._known[(mask, depth)]
 
     def _look(self, mask, depth):
-        if mask == 0:
-            return REST
         for action in self._masks:
             if mask & ~self._masks[action] == 0:
                 return action

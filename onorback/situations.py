@@ -80,7 +80,7 @@ class Scene:
         return [(deed, self._led(situation, content, -1)) for deed, content in steps]
 
     def wrong_deeds(self, situation):
-        """Return the list of the wrong deeds, all of which can be done."""
+        """Return the ascending list of the wrong deeds at a situation, all of which can be done."""
         content = situation[0]
         deeds = []
         for place, (many, _) in enumerate(self.task[0]):

@@ -133,8 +133,8 @@ def is_barrier_against(scene, word, many, thing):
     for situation, height in thing:
         for deed, other in scene.deeds_at(situation, (word,)):
             behind = height + 1 if deed[0] == word else height
-            # What is not in the list stands too high, as what is broken does.
-            if behind < many and heights.get(other, many) > behind:
+            # What is not in the list, or broken, stands as high as the number of deeds that are needed for it.
+            if heights.get(other, many) > behind:
                 return False
     return True
 

@@ -6,7 +6,7 @@ from onorback.stories import is_barrier_against, least_barrier, least_number, le
 
 def wrong_deeds_from(task, plan, situation):
     """Return the ascending list of the wrong deeds at a situation, and of where they lead."""
-    return sorted(Scene(task, plan).wrong_deeds(situation))
+    return Scene(task, plan).wrong_deeds(situation)
 
 
 def wrong_distance(task, plan):

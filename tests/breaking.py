@@ -170,6 +170,28 @@ class Breaking:
         if left:
             yield sorted(barrier + [(rng.choice(left), rng.randrange(many))])
 
+    def test_what_is_no_situation(self):
+        rng = random.Random(169)
+        for k, (task, plan) in enumerate(self.plans(170, 120)):
+            told = Hands(task, plan)
+            many = self.distance(task, plan) or 3
+            barrier = self.barrier(task, plan) or [(situation, 0) for situation in told.reached((self.word,))]
+            self.assertIs(self.agree_barrier(task, plan, told, many, barrier), True)
+            false = told.false_situations()
+            for situation in false if k < 20 else rng.sample(false, min(len(false), 30)):
+                thing = sorted(barrier + [(situation, many - 1)])
+                self.assertIs(self.is_barrier(task, plan, many, thing), False, (task, plan, situation))
+
+    def test_contents_without_a_home_are_in_no_situation(self):
+        # Rows that lead round, and a content without a row.
+        task = ((samples.free(5),), (A, B), (either_order(A, B), either_order(B, A)))
+        plan = ((((2,), (3,)), ((3,), (2,))), ((A, B), (B, A)))
+        barrier = self.barrier(task, plan)
+        for more in [[(2,), (3,)], [(2,)], [(4,)]]:
+            for index in [-1, 0, 1]:
+                thing = sorted(barrier + [((content, index, -1), 0) for content in more])
+                self.assertIs(self.agree_barrier(task, plan, Hands(task, plan), 1, thing), False)
+
     def test_values_of_any_kind(self):
         task, plan = LINE
         told = Hands(task, plan)

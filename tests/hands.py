@@ -34,6 +34,12 @@ class Hands:
                 found += [(content, index, at) for at in range(len(way) - 1) if way[at] == content]
         return sorted(found)
 
+    def false_situations(self):
+        """Tuples that are no situations, though each of their items could be one's."""
+        right = set(self.situations())
+        ats = range(-2, max([len(way) for way in self.ways], default=0) + 1)
+        return [each for each in product(self.homes, range(-2, len(self.ways) + 1), ats) if each not in right]
+
     def forms(self):
         """All deeds that there could be."""
         forms = [("step",), ("die",)] + [("order", k) for k in range(len(self.orders))]

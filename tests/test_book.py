@@ -212,6 +212,9 @@ class BookTest(unittest.TestCase):
         for start, goal in [(E, A), (A, A), (A, C), ((False,), E), (A, [4]), (A, 4), (None, None), ((0, 0), E),
                             (A, (9,))]:
             self.refuses(book, NoOrder, {"start": start, "goal": goal}, ("drop", start, goal))
+        other = Book(with_orders(TASK, TASK[2][1:]))
+        for goal in [(False,), (0.0,), [0], 0, "0", (0, 0), (-6,)]:
+            self.refuses(other, NoOrder, {"start": E, "goal": goal}, ("drop", E, goal))
         for thing in samples.odd_values():
             if repr(thing) not in ("(0,)", "()"):
                 self.refuses(book, NoOrder, {"start": thing, "goal": A}, ("order", thing, A, ()))
@@ -452,6 +455,10 @@ class BookTest(unittest.TestCase):
         self.assertIs(book == other, True)
         book.do(("plan", another_plan(TASK, book.plan_now())))
         self.assertIs(book == other, False)
+        # Of the same plan, but of other tasks.
+        one, two = Book((SLIDE, (A,), ())), Book((SLIDE, (B,), ()))
+        self.assertEqual(one.plan_now(), two.plan_now())
+        self.assertIs(one == two, False)
         player = Player(TASK, found(TASK), A)
         for thing in samples.odd_values() + [player, (TASK, found(TASK), []), TASK]:
             self.assertIs(book == thing, False)

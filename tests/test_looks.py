@@ -143,6 +143,29 @@ class LooksTest(unittest.TestCase):
         for other in actions_of(BITS):
             looks = ("look", 1, (("look", 0, (REST, other)), ("put", 1, 0)))
             self.assertEqual(self.agree(task, (((0, 1), (0, 0)),), looks), 2)
+        # But even there nothing may stand that is no looks.
+        for other in [("put", 0, 2), ("put", 2, 0), ("put", 0, -1), ("put", -1, 0), ("put", False, 0), ("put", 0, True),
+                      ("put", 0, 10 ** 39), ("put", 10 ** 39, 0), ("put", 0, None), ("put", 0, (1,)), ("put", 0),
+                      ("put",), ("rest", 0), ("rest", 0, 0), ("Rest",), ("see", 0, (REST, REST)),
+                      ("Look", 1, (REST, REST)), None, ("look", 0, (REST, REST)), ("look", 1, (REST, REST)), (), "rest",
+                      ["rest"], (REST,), 0, ("look",)]:
+            looks = ("look", 1, (("look", 0, (REST, other)), ("put", 1, 0)))
+            self.assertIsNone(self.agree(task, (((0, 1), (0, 0)),), looks))
+            looks = ("look", 1, (("look", 0, (other, REST)), ("put", 1, 0)))
+            self.assertIsNone(self.agree(task, (((0, 1), (0, 0)),), looks))
+
+    def test_what_no_content_comes_to(self):
+        task, rule = ((free_place(2),) * 3, ((0, 0, 0),), ()), (((0, 0, 1), (0, 0, 0)),)
+        told = ("look", 2, (REST, ("put", 2, 0)))
+        for other in [REST, ("put", 1, 1), told, ("look", 1, (REST, told)), ("look", 1, (told, ("put", 2, 1)))]:
+            self.assertIsNotNone(self.agree(task, rule, ("look", 0, (told, other))))
+        for other in [("see", 1, (REST, REST)), ("Look", 1, (REST, REST)), ("rest", 1, (REST, REST)),
+                      ("look", 1, [REST, REST]), ("look", 0, (REST, REST)), ("look", 1, (REST,)),
+                      ("look", 1, (REST, REST, REST)), ("look", 3, (REST, REST)), ("look", True, (REST, REST)),
+                      ("look", -1, (REST, REST)), ("look", 1, (REST, ("look", 1, (REST, REST)))),
+                      (None, 1, (REST, REST)), ("put", 1, (REST, REST)), ("look", 1, (REST, None)),
+                      (1, 1, (REST, REST))]:
+            self.assertIsNone(self.agree(task, rule, ("look", 0, (told, other))))
 
     def test_ordinary_rules(self):
         rng = random.Random(211)
@@ -230,7 +253,8 @@ class LooksTest(unittest.TestCase):
     def test_values_of_any_kind(self):
         for thing in samples.odd_values():
             for given in [thing, ("look", thing, LOOKS[2]), ("look", 0, thing), ("look", 0, (thing, LOOKS[2][1])),
-                          (thing,), (thing, 0, LOOKS[2]), ("put", thing, 0), ("put", 0, thing), ("look", 0, (thing, thing))]:
+                          (thing,), (thing, 0, LOOKS[2]), ("put", thing, 0), ("put", 0, thing),
+                          ("look", 0, (thing, thing))]:
                 self.agree(TASK, RULE, given)
                 self.agree((BITS, ((0, 0),), ()), (), given)
 

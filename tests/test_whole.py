@@ -7,11 +7,11 @@ from pathlib import Path
 from onorback.anytoany import any_to_any
 from onorback.benches import is_two_way, with_orders
 from onorback.book import Book
-from onorback.both import bears, breaking_pairs, mixed_story
+from onorback.both import bears, breaking_pairs, mixed_deeds_in, mixed_story
 from onorback.cases import case_tree, is_tree
 from onorback.cuts import barring_cut, is_barring
 from onorback.desk import Desk
-from onorback.errors import Broken, NoReturn, OnError, Refused, TooMany
+from onorback.errors import Broken, NoCommand, NoIndex, NoRest, NoReturn, NoText, OnError, Refused, TooMany
 from onorback.finding import find_model
 from onorback.forms import is_model, is_plan, is_task
 from onorback.greatest import greatest_orders
@@ -21,10 +21,10 @@ from onorback.judging import broken_orders, first_break, is_story, keeps_task, s
 from onorback.late import barrier_of, is_barrier, late_deeds_in, late_distance, late_story
 from onorback.leastlog import least_meeting, least_values
 from onorback.logs import bears_couples, log_task, lots_of_layers
-from onorback.looks import action_by, least_looks, least_rule
+from onorback.looks import action_by, least_looks, least_rule, looks_depth
 from onorback.mending import least_changes, way_by_rule
 from onorback.models import model_of, plan_of, rule_of, unserved_orders
-from onorback.player import Player, played
+from onorback.player import Player, first_bad, played
 from onorback.reader import read_bench, read_model, read_plan, read_task
 from onorback.sides import room_word, side_plan, side_task
 from onorback.situations import begin_situations, deeds_from
@@ -225,6 +225,38 @@ class WholeTest(unittest.TestCase):
         player = Player(task, book.plan_now(), (0,))
         self.assertIs(book == player, False)
         self.assertIs(player == book, False)
+
+    def test_numbers_of_any_greatness(self):
+        task = read_task("slide 3\nrests 0 2\neither 0 2\neither 2 0")
+        plan = plan_of(task, find_model(task))
+        rest = (0,)
+        for great in [2 ** 31, 2 ** 63 - 1, 2 ** 63, 10 ** 30, 10 ** 39]:
+            for number in [great, -great]:
+                for bench, content in [(((number, ()),), rest), (task[0], (number,)), (((3, ((0, number),)),), rest)]:
+                    self.assertIs(is_task((bench, (content,), ())), False)
+                self.assertIs(is_tree(task, ("order", number)), False)
+                self.assertIs(is_story(task, plan, 0, [("order", number), STEP, DIE]), False)
+                self.assertEqual(first_bad(task, plan, rest, [("order", number)]), 0)
+                self.assertIsNone(late_deeds_in(task, plan, (rest, [("late", number, 0)])))
+                self.assertIsNone(late_deeds_in(task, plan, (rest, [("late", 0, number)])))
+                self.assertIsNone(wrong_deeds_in(task, plan, (rest, [("wrong", 0, number)])))
+                self.assertIsNone(mixed_deeds_in(task, plan, (rest, [("wrong", number, 1)])))
+                for situation in [(rest, number, -1), (rest, 0, number), (rest, number, number), ((number,), -1, -1)]:
+                    self.assertIs(is_barrier(task, plan, 1, [(situation, 0)]), False)
+                    self.assertIs(is_wrong_barrier(task, plan, great, [(situation, number)]), False)
+                self.assertIsNone(looks_depth(task, plan[0], ("look", number, (("rest",),) * 3)))
+                self.assertIsNone(looks_depth(task, plan[0], ("put", number, number)))
+                self.assertIs(bears_couples(task[0], (), (((number,), None, None),)), False)
+                self.assertRaises(NoIndex, lambda: Book(task).do(("free", number)))
+                self.assertRaises(NoRest, lambda: Book(task).do(("rest", (number,))))
+            self.assertIsNone(any_to_any(task[0], great))
+            self.assertIs(bears(task, plan, great, great), False)
+            self.assertIs(bears(task, plan, great, 0), False)
+            self.assertIs(bears(task, plan, 0, great), False)
+            self.assertIsNotNone(mixed_story(task, plan, great, great))
+            self.assertRaises(Broken, lambda: Book(task).do(("promise", ("late", great))))
+            self.assertRaises(NoCommand, lambda: Desk(show_task(task)).execute(f"late {great}"))
+            self.assertRaises(NoText, lambda: Desk(f"free {great}\nrests 0"))
 
     def test_the_readme_tells_how_each_module_is_used(self):
         text = README.read_text(encoding="utf-8")
