@@ -1,83 +1,133 @@
 """Stories of deeds of which the last one breaks a plan, and barriers, which show that there are none so short.
 
-Words are those of the deeds that are counted: (LATE,), (WRONG,) or both.
+A word is that of the deeds that are counted, LATE or WRONG; words are some of these.
 """
 
-from heapq import heappop, heappush
-
 from onorback.forms import ascends, is_content, is_integer
+from onorback.lanes import followed, moved
+from onorback.masks import first_number
 from onorback.situations import LATE, WRONG, begin_situations
 
 
 class Spread:
-    """What deeds lead to from the beginnings, and what they break, with as few late and wrong ones as can be.
+    """What is come to with so many late and wrong deeds, and with how few of both a plan breaks.
 
-    heights is the dict from situations to the least number of late and wrong deeds together, if but one of both is
-    counted; pairs is the ascending list of the tuples (pair, story) for the least pairs of late and wrong deeds.
+    reached is the dict from each pair (late, wrong) that was looked at, and did not break, to the mask of the spots
+    to which one comes with at most so many deeds of both.
     """
 
-    def __init__(self, scene, words):
-        self.heights = {}
-        self.pairs = []
-        self._scene = scene
-        self._words = words
-        # What was met, with the number of what was ahead of it and the deed; None stands for what is broken.
-        self._met = []
-        self._queue = []
-        # By how few wrong deeds each was met: with more late ones only fewer wrong ones are of use.
-        self._fewest = {}
-        for beginning in begin_situations(scene.task):
-            self._put(0, 0, beginning, None, None)
-        while self._queue:
-            late, wrong, number = heappop(self._queue)
-            if self._is_of_use(self._met[number][0], wrong):
-                self._look_at(late, wrong, number)
+    def __init__(self, lanes, most_late, most_wrong):
+        self.reached = {}
+        self._lanes = lanes
+        self._most_late = min(most_late, lanes.most_late)
+        self._most_wrong = min(most_wrong, lanes.most_wrong)
+        self._late_moves = lanes.late_moves() if self._most_late > 0 else []
+        self._wrong_moves = lanes.wrong_moves() if self._most_wrong > 0 else []
+        self._next_late = 0
 
-    def _is_of_use(self, situation, wrong):
-        if self._fewest.get(None, wrong + 1) <= wrong:
-            return False
-        return self._fewest.get(situation, wrong + 1) > wrong
+    def next_pair(self):
+        """Return the next one, in ascending order, of the least pairs that break, or None."""
+        while self._next_late <= self._most_late and self._most_wrong >= 0:
+            late = self._next_late
+            self._next_late += 1
+            wrong = self._first_breaking(late)
+            if wrong is not None:
+                # With more late deeds only fewer wrong ones are of use.
+                self._most_wrong = wrong - 1
+                return (late, wrong)
+        return None
 
-    def _put(self, late, wrong, situation, ahead, deed):
-        if self._is_of_use(situation, wrong):
-            heappush(self._queue, (late, wrong, len(self._met)))
-            self._met.append((situation, ahead, deed))
+    def _first_breaking(self, late):
+        """Return the least number of wrong deeds that break with so many late ones, or None."""
+        lanes = self._lanes
+        most_wrong = self._most_wrong
+        for wrong in range(most_wrong + 1):
+            led = self._led_to(late, wrong)
+            if led & ~lanes.let:
+                return wrong
+            self.reached[(late, wrong)] = followed(lanes.rows, lanes.begun | led & lanes.kept, lanes.kept)
+        return None
 
-    def _look_at(self, late, wrong, number):
-        situation = self._met[number][0]
-        self._fewest[situation] = wrong
-        if situation is None:
-            self.pairs.append(((late, wrong), self._story(number)))
-            return
-        self.heights.setdefault(situation, late + wrong)
-        for deed, other in self._scene.deeds_at(situation, self._words):
-            more_late = 1 if deed[0] == LATE else 0
-            more_wrong = 1 if deed[0] == WRONG else 0
-            self._put(late + more_late, wrong + more_wrong, other, number, deed)
+    def _led_to(self, late, wrong):
+        """Return the mask of the spots to which the last one of at most so many late and wrong deeds leads."""
+        by_late = moved(self._late_moves, self.reached.get((late - 1, wrong), 0))
+        return by_late | moved(self._wrong_moves, self.reached.get((late, wrong - 1), 0))
 
-    def _story(self, number):
+    def story_for(self, pair):
+        """Return a story of a pair that was returned; it is made from its last deed to its first one."""
+        late, wrong = pair
+        spot = first_number(self._led_to(late, wrong) & ~self._lanes.let)
         deeds = []
-        situation, ahead, deed = self._met[number]
-        while ahead is not None:
-            deeds.append(deed)
-            situation, ahead, deed = self._met[ahead]
-        return (situation[0], deeds[::-1])
+        steps = 0
+        while (late, wrong) != (0, 0):
+            deed, spot, late, wrong = self._last_deed(spot, late, wrong)
+            spot, steps = self._back_by_rows(spot, late, wrong)
+            deeds.extend([deed] + [("step",)] * steps)
+        lane, content = self._lanes.place_of(spot)
+        rests = self._lanes.task[1]
+        if lane < len(rests):
+            return (content, deeds[::-1])
+        index = lane - len(rests)
+        way = self._lanes.ways[index]
+        died = [("die",)] if steps else []
+        return (way[0], [("order", index)] + [("step",)] * way.index(content) + died + deeds[::-1])
+
+    def _last_deed(self, spot, late, wrong):
+        """Return a late or wrong deed that leads to a spot, where from, and how many of both are ahead of it."""
+        found = self._lanes.late_deed_to(spot, self.reached.get((late - 1, wrong), 0))
+        if found is not None:
+            return found + (late - 1, wrong)
+        return self._lanes.wrong_deed_to(spot, self.reached[(late, wrong - 1)]) + (late, wrong - 1)
+
+    def _back_by_rows(self, spot, late, wrong):
+        """Return whence rows lead to a spot: where the last one of so many deeds leads, or runs begin; and how many."""
+        # Fewer deeds do not lead here, or there would be a lesser pair: so runs begin here only if there are none.
+        sources = self._lanes.begun | self._led_to(late, wrong)
+        spots = 1 << spot
+        steps = 0
+        while not spots & sources:
+            spots = moved(self._lanes.back_rows, spots)
+            steps += 1
+        return (first_number(spots & sources), steps)
 
 
-def least_number(scene, word):
+def _spread_by(lanes, word):
+    """Return the spread of deeds with this word alone."""
+    if word == LATE:
+        return Spread(lanes, lanes.most_late, 0)
+    return Spread(lanes, 0, lanes.most_wrong)
+
+
+def breaking_numbers(lanes):
+    """Return the ascending list of the least pairs of numbers of late and of wrong deeds in stories."""
+    spread = Spread(lanes, lanes.most_late, lanes.most_wrong)
+    pairs = []
+    pair = spread.next_pair()
+    while pair is not None:
+        pairs.append(pair)
+        pair = spread.next_pair()
+    return pairs
+
+
+def least_number(lanes, word):
     """Return the least number of deeds with this word, and no other ones that are counted, in a story, or None."""
-    pairs = Spread(scene, (word,)).pairs
-    if not pairs:
+    pair = _spread_by(lanes, word).next_pair()
+    if pair is None:
         return None
-    return sum(pairs[0][0])
+    return sum(pair)
 
 
-def least_story(scene, word):
+def least_story(lanes, word):
     """Return a story with as few deeds with this word, and no other ones that are counted, or None."""
-    pairs = Spread(scene, (word,)).pairs
-    if not pairs:
+    return first_story(_spread_by(lanes, word))
+
+
+def first_story(spread):
+    """Return a story of the first pair of a spread, or None."""
+    pair = spread.next_pair()
+    if pair is None:
         return None
-    return pairs[0][1]
+    return spread.story_for(pair)
 
 
 def numbers_told(scene, words, thing):
@@ -111,14 +161,19 @@ def _count(deeds, word):
     return len([deed for deed in deeds if deed[0] == word])
 
 
-def least_barrier(scene, word):
+def least_barrier(lanes, word):
     """Return a barrier of the least number of deeds with this word, or None if there is no story."""
-    spread = Spread(scene, (word,))
-    if not spread.pairs:
+    spread = _spread_by(lanes, word)
+    pair = spread.next_pair()
+    if pair is None:
         return None
-    many = sum(spread.pairs[0][0])
-    heights = spread.heights
-    return sorted([(situation, heights[situation]) for situation in heights if heights[situation] < many])
+    barrier = [(situation, 0) for situation in lanes.situations_at_work()]
+    known = 0
+    for height in range(sum(pair)):
+        spots = spread.reached[(height, 0) if word == LATE else (0, height)]
+        barrier.extend([(situation, height) for situation in lanes.situations_in(spots & ~known)])
+        known = spots
+    return sorted(barrier)
 
 
 def is_barrier_against(scene, word, many, thing):

@@ -1,5 +1,6 @@
 """Wrong hands: how many of their steps break a plan, stories that show it, barriers against fewer."""
 
+from onorback.lanes import Lanes
 from onorback.situations import WRONG, Scene
 from onorback.stories import is_barrier_against, least_barrier, least_number, least_story, numbers_told
 
@@ -11,12 +12,12 @@ def wrong_deeds_from(task, plan, situation):
 
 def wrong_distance(task, plan):
     """Return the least number of wrong deeds in a wrong story, or None if there is no such story."""
-    return least_number(Scene(task, plan), WRONG)
+    return least_number(Lanes(task, plan), WRONG)
 
 
 def wrong_story(task, plan):
     """Return a wrong story with the fewest wrong deeds, or None."""
-    return least_story(Scene(task, plan), WRONG)
+    return least_story(Lanes(task, plan), WRONG)
 
 
 def wrong_deeds_in(task, plan, thing):
@@ -29,7 +30,7 @@ def wrong_deeds_in(task, plan, thing):
 
 def wrong_barrier_of(task, plan):
     """Return a wrong barrier of the wrong distance, or None if there is no such distance."""
-    return least_barrier(Scene(task, plan), WRONG)
+    return least_barrier(Lanes(task, plan), WRONG)
 
 
 def is_wrong_barrier(task, plan, many, thing):

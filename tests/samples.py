@@ -342,9 +342,9 @@ STURDY = [(slide(5),), (slide(6),), (free(2),) * 3, (free(2),) * 3, (free(2),) *
           (slide(3), slide(3)), (dial(6),), (free(2), free(2), free(3)), (slide(5), slide(2)), (slide(6), slide(3))]
 
 
-def sturdy_kept(rng):
+def sturdy_kept(rng, bench=None):
     """A task with a plan that keeps it, with few rests far from each other, and EITHER orders both ways."""
-    bench = rng.choice(STURDY)
+    bench = bench or rng.choice(STURDY)
     everywhere = contents(bench)
     rests = [rng.choice(everywhere[:3])]
     for _ in range(rng.choice([1, 1, 2])):

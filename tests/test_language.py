@@ -21,6 +21,7 @@ LISTED = {
     ast.Lt, ast.LtE, ast.Gt, ast.GtE, ast.Is, ast.IsNot, ast.In, ast.NotIn, ast.Call, ast.keyword, ast.FormattedValue,
     ast.JoinedStr, ast.Constant, ast.Attribute, ast.Subscript, ast.Starred, ast.Name, ast.List, ast.Tuple, ast.Slice,
     ast.Load, ast.Store, ast.Delete, ast.Del, ast.BitAnd, ast.BitOr, ast.BitXor, ast.Invert, ast.LShift,
+    ast.RShift,
 }
 LIBRARY = {("itertools", "combinations"), ("math", "isqrt"), ("heapq", "heappop"), ("heapq", "heappush")}
 BARRED = re.compile(r"_wall\w*|_WallAttr\w*|_(pe|dcw|enum|cm|twin_re|lay|law|stub)_\w*|_sre\w*"

@@ -264,7 +264,7 @@ class WholeTest(unittest.TestCase):
             if path.stem == "__init__":
                 continue
             self.assertIn(f"`onorback.{path.stem}`", text)
-            if path.stem not in ("masks", "stories"):
+            if path.stem not in ("lanes", "masks", "stories"):
                 self.assertIn(f">>> from onorback.{path.stem} import ", text)
 
 
